@@ -1,0 +1,77 @@
+"""The interface: its names, arguments and kinds as they stand in the document."""
+
+import importlib
+import inspect
+import unittest
+
+from tests.sets import deep_kinds
+
+ARGUMENTS = {
+    "throng.rows": {
+        "is_row": ["thing", "width"], "is_letter": ["thing", "width"], "row_holds": ["row", "letter"],
+        "row_meet": ["one", "other"], "row_within": ["one", "other"], "row_size": ["row"], "row_least": ["row"],
+        "row_written": ["row", "over"], "row_less": ["one", "other"],
+    },
+    "throng.heaps": {
+        "heap_has": ["heap", "letter"], "heap_apart": ["heap"], "heap_meet": ["one", "other"],
+        "heap_less": ["one", "other"], "heap_size": ["heap"], "heap_missing": ["one", "other"],
+        "heap_parted": ["one", "other"],
+    },
+    "throng.graphs": {
+        "graph_of": ["heap"], "graph_has": ["graph", "letter"], "graph_size": ["graph", "width"],
+        "graph_rows": ["graph", "width"], "graph_least": ["graph", "width"],
+    },
+}
+GRAPH = (2, [(1, 0, 1)])
+# Each with arguments by name, and the kind of what is told.
+KINDS = [
+    ("rows", "is_row", {"thing": "0-", "width": 2}, bool), ("rows", "is_row", {"thing": None, "width": 2}, bool),
+    ("rows", "is_letter", {"thing": "01", "width": 2}, bool), ("rows", "is_letter", {"thing": 1, "width": 1}, bool),
+    ("rows", "row_holds", {"row": "0-", "letter": "01"}, bool),
+    ("rows", "row_meet", {"one": "0-", "other": "-1"}, str), ("rows", "row_meet", {"one": "0", "other": "1"}, None),
+    ("rows", "row_within", {"one": "01", "other": "0-"}, bool), ("rows", "row_size", {"row": "0-"}, int),
+    ("rows", "row_least", {"row": "0-"}, str), ("rows", "row_written", {"row": "0-", "over": "-1"}, str),
+    ("rows", "row_less", {"one": "--", "other": "01"}, [str]), ("rows", "row_less", {"one": "0", "other": "-"}, []),
+    ("heaps", "heap_has", {"heap": ["0-"], "letter": "01"}, bool),
+    ("heaps", "heap_apart", {"heap": ["0-", "-0"]}, [str]), ("heaps", "heap_apart", {"heap": []}, []),
+    ("heaps", "heap_meet", {"one": ["0-"], "other": ["-0"]}, [str]),
+    ("heaps", "heap_less", {"one": ["0-"], "other": ["-0"]}, [str]),
+    ("heaps", "heap_size", {"heap": ["0-", "-0"]}, int), ("heaps", "heap_size", {"heap": []}, int),
+    ("heaps", "heap_missing", {"one": ["0-"], "other": ["-0"]}, str),
+    ("heaps", "heap_missing", {"one": ["00"], "other": ["-0"]}, None),
+    ("heaps", "heap_parted", {"one": ["0-"], "other": ["-0"]}, str),
+    ("heaps", "heap_parted", {"one": ["0"], "other": ["0"]}, None),
+    ("graphs", "graph_has", {"graph": GRAPH, "letter": "01"}, bool),
+    ("graphs", "graph_size", {"graph": GRAPH, "width": 2}, int),
+    ("graphs", "graph_size", {"graph": (0, []), "width": 2}, int),
+    ("graphs", "graph_rows", {"graph": GRAPH, "width": 2}, [str]),
+    ("graphs", "graph_rows", {"graph": (0, []), "width": 2}, []),
+    ("graphs", "graph_least", {"graph": GRAPH, "width": 2}, str),
+    ("graphs", "graph_least", {"graph": (0, []), "width": 2}, None),
+]
+
+
+class Interface(unittest.TestCase):
+    def test_names_and_arguments(self):
+        for module, functions in ARGUMENTS.items():
+            for name, wanted in functions.items():
+                parameters = inspect.signature(getattr(importlib.import_module(module), name)).parameters
+                self.assertEqual(list(parameters), wanted, name)
+                for parameter in parameters.values():
+                    self.assertIs(parameter.default, inspect.Parameter.empty, name)
+
+    def test_kinds(self):
+        for module, name, given, wanted in KINDS:
+            told = getattr(importlib.import_module("throng." + module), name)(**given)
+            if wanted is None:
+                self.assertIsNone(told, name)
+            elif isinstance(wanted, list):
+                self.assertEqual(deep_kinds(told), (list, wanted * len(told)), name)
+                self.assertEqual(told == [], wanted == [], name)
+            else:
+                self.assertIs(type(told), wanted, name)
+
+    def test_kind_of_a_graph(self):
+        graph = importlib.import_module("throng.graphs").graph_of(heap=["0-1"])
+        node = (tuple, [int, int, int])
+        self.assertEqual(deep_kinds(graph), (tuple, [int, (list, [node, node])]))

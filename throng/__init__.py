@@ -1,0 +1,1 @@
+"""Throng: all letters at once through a net of houses."""
