@@ -2,9 +2,8 @@
 
 import unittest
 
+from tests.sets import REFUSALS
 from throng import errors
-
-NAMES = ["Misfit", "Twice", "NoField", "NoRule", "NoWay", "NoDoor", "NoHouse", "NoLine", "BadWord", "Unlike"]
 
 
 class Errors(unittest.TestCase):
@@ -12,21 +11,21 @@ class Errors(unittest.TestCase):
         self.assertEqual(errors.ThrongError.__bases__, (ValueError,))
 
     def test_each_stands_straight_under_the_base(self):
-        for name in NAMES:
+        for name in REFUSALS:
             self.assertEqual(getattr(errors, name).__bases__, (errors.ThrongError,), name)
 
     def test_none_stands_under_another(self):
-        for one in NAMES:
-            for other in NAMES:
+        for one in REFUSALS:
+            for other in REFUSALS:
                 under = issubclass(getattr(errors, one), getattr(errors, other))
                 self.assertEqual(under, one == other, (one, other))
 
     def test_names_are_the_classes_own(self):
-        for name in NAMES + ["ThrongError"]:
+        for name in REFUSALS + ["ThrongError"]:
             self.assertEqual(getattr(errors, name).__name__, name)
 
     def test_raised_with_and_without_words(self):
-        for name in NAMES + ["ThrongError"]:
+        for name in REFUSALS + ["ThrongError"]:
             kind = getattr(errors, name)
             for error in (kind, kind(), kind("words of its own")):
                 with self.assertRaises(errors.ThrongError) as caught:

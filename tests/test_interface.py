@@ -21,8 +21,30 @@ ARGUMENTS = {
         "graph_of": ["heap"], "graph_has": ["graph", "letter"], "graph_size": ["graph", "width"],
         "graph_rows": ["graph", "width"], "graph_least": ["graph", "width"],
     },
+    "throng.blends": {
+        "graph_blend": ["one", "other", "word"], "graph_other": ["graph"], "graph_under": ["graph", "over"],
+    },
+    "throng.fields": {
+        "layout_width": ["layout"], "field_span": ["layout", "name"], "field_row": ["layout", "parts"],
+        "field_part": ["layout", "name", "row"],
+    },
+    "throng.rules": {
+        "rule_first": ["rules", "letter"], "rule_deed": ["rules", "letter"], "rule_shares": ["rules", "row"],
+        "rule_needed": ["rules", "number", "width"], "rules_thinned": ["rules", "width"],
+    },
+    "throng.ways": {
+        "way_found": ["ways", "signs"], "way_rows": ["ways", "size"], "ways_thinned": ["ways", "size"], "Tree": [],
+    },
+}
+METHODS = {
+    "put_way": ["beginning", "door"], "strike_way": ["beginning"], "way_at": ["signs"], "told_ways": [],
+    "ways_below": ["signs"],
 }
 GRAPH = (2, [(1, 0, 1)])
+GRAPH_KIND = (tuple, [int, (list, [(tuple, [int, int, int])])])
+LAYOUT = [("a", 1), ("to", 2)]
+RULES = [("0-", "pass", "-1"), ("-1", "drop", "--")]
+WAYS = [("0", "in"), ("01", "out")]
 # Each with arguments by name, and the kind of what is told.
 KINDS = [
     ("rows", "is_row", {"thing": "0-", "width": 2}, bool), ("rows", "is_row", {"thing": None, "width": 2}, bool),
@@ -48,6 +70,28 @@ KINDS = [
     ("graphs", "graph_rows", {"graph": (0, []), "width": 2}, []),
     ("graphs", "graph_least", {"graph": GRAPH, "width": 2}, str),
     ("graphs", "graph_least", {"graph": (0, []), "width": 2}, None),
+    ("blends", "graph_blend", {"one": GRAPH, "other": (0, []), "word": "join"}, GRAPH_KIND),
+    ("blends", "graph_blend", {"one": GRAPH, "other": GRAPH, "word": "either"}, (tuple, [int, (list, [])])),
+    ("blends", "graph_other", {"graph": GRAPH}, GRAPH_KIND),
+    ("blends", "graph_under", {"graph": GRAPH, "over": "1-"}, GRAPH_KIND),
+    ("blends", "graph_under", {"graph": GRAPH, "over": "-1"}, (tuple, [int, (list, [])])),
+    ("fields", "layout_width", {"layout": LAYOUT}, int),
+    ("fields", "field_span", {"layout": LAYOUT, "name": "to"}, (tuple, [int, int])),
+    ("fields", "field_row", {"layout": LAYOUT, "parts": [("to", "0-")]}, str),
+    ("fields", "field_part", {"layout": LAYOUT, "name": "to", "row": "0-1"}, str),
+    ("rules", "rule_first", {"rules": RULES, "letter": "01"}, int),
+    ("rules", "rule_deed", {"rules": RULES, "letter": "01"}, (tuple, [str, str])),
+    ("rules", "rule_deed", {"rules": RULES, "letter": "11"}, (tuple, [str, type(None)])),
+    ("rules", "rule_shares", {"rules": RULES, "row": "--"}, [(tuple, [str, int])]),
+    ("rules", "rule_needed", {"rules": RULES, "number": 0, "width": 2}, str),
+    ("rules", "rule_needed", {"rules": RULES, "number": 1, "width": 2}, None),
+    ("rules", "rules_thinned", {"rules": RULES, "width": 2}, [(tuple, [str, str, str])]),
+    ("rules", "rules_thinned", {"rules": RULES[1:], "width": 2}, []),
+    ("ways", "way_found", {"ways": WAYS, "signs": "01"}, str), ("ways", "way_found", {"ways": WAYS, "signs": ""}, None),
+    ("ways", "way_rows", {"ways": WAYS + [("", "in")], "size": 2}, [(tuple, [str, str])]),
+    ("ways", "way_rows", {"ways": [], "size": 2}, [(tuple, [str, type(None)])]),
+    ("ways", "ways_thinned", {"ways": WAYS, "size": 2}, [(tuple, [str, str])]),
+    ("ways", "ways_thinned", {"ways": [], "size": 2}, []),
 ]
 
 
@@ -68,6 +112,8 @@ class Interface(unittest.TestCase):
             elif isinstance(wanted, list):
                 self.assertEqual(deep_kinds(told), (list, wanted * len(told)), name)
                 self.assertEqual(told == [], wanted == [], name)
+            elif isinstance(wanted, tuple):
+                self.assertEqual(deep_kinds(told), wanted, name)
             else:
                 self.assertIs(type(told), wanted, name)
 
@@ -75,3 +121,18 @@ class Interface(unittest.TestCase):
         graph = importlib.import_module("throng.graphs").graph_of(heap=["0-1"])
         node = (tuple, [int, int, int])
         self.assertEqual(deep_kinds(graph), (tuple, [int, (list, [node, node])]))
+
+    def test_methods_of_the_tree(self):
+        tree = importlib.import_module("throng.ways").Tree()
+        for name, wanted in METHODS.items():
+            self.assertEqual(list(inspect.signature(getattr(tree, name)).parameters), wanted, name)
+
+    def test_kinds_told_by_the_tree(self):
+        tree = importlib.import_module("throng.ways").Tree()
+        self.assertIsNone(tree.put_way(beginning="01", door="out"))
+        self.assertIs(type(tree.way_at(signs="01")), str)
+        self.assertIsNone(tree.way_at(signs=""))
+        self.assertEqual(deep_kinds(tree.told_ways()), (list, [(tuple, [str, str])]))
+        self.assertEqual(deep_kinds(tree.ways_below(signs="0")), (list, [(tuple, [str, str])]))
+        self.assertEqual(deep_kinds(tree.ways_below(signs="1")), (list, []))
+        self.assertIsNone(tree.strike_way(beginning="01"))

@@ -29,6 +29,9 @@ WORDS = """type typing typing_extensions enum Enum IntEnum StrEnum Flag IntFlag 
 WITHIN_WORDS = ["dataclass", "overload", "contextmanager"]
 WALKED = {"zip", "enumerate", "reversed", "range"}
 WALKERS = {"list", "tuple", "dict", "sorted", "sum", "any", "all", "enumerate", "zip", "min", "max"}
+WALKED_METHODS = {"items", "keys", "values"}
+KEYWORDS = {"sorted": {"key", "reverse"}, "min": {"key", "default"}, "max": {"key", "default"}, "sum": {"start"},
+            "enumerate": {"start"}, "zip": {"strict"}}
 
 
 def parsed(path):
@@ -192,13 +195,34 @@ class Language(unittest.TestCase):
 
     def test_sets_and_walks(self):
         for name, tree, node, spot in self.each():
-            if not (isinstance(node, ast.Call) and isinstance(node.func, ast.Name)):
+            if not isinstance(node, ast.Call):
                 continue
             above = node.parent
             caller = above.func.id if isinstance(above, ast.Call) and isinstance(above.func, ast.Name) else ""
-            if node.func.id in ("set", "frozenset"):
+            called = node.func.id if isinstance(node.func, ast.Name) else ""
+            method = node.func.attr if isinstance(node.func, ast.Attribute) else ""
+            if called in ("set", "frozenset"):
                 beside = isinstance(above, (ast.Compare, ast.BinOp))
                 self.assertTrue(caller in ("sorted", "len") and not above.keywords or beside, spot)
-            if node.func.id in WALKED:
+            if called in WALKED or method in WALKED_METHODS:
                 walked = isinstance(above, (ast.For, ast.comprehension)) and above.iter == node
                 self.assertTrue(walked or caller in WALKERS, spot)
+
+    def test_keywords(self):
+        for name, tree, node, spot in self.each():
+            if isinstance(node, ast.Call):
+                called = getattr(node.func, "id", getattr(node.func, "attr", ""))
+                if called in OWN_NAMES or called in METHODS:
+                    self.assertLessEqual({keyword.arg for keyword in node.keywords}, KEYWORDS.get(called, set()), spot)
+
+    def test_errors(self):
+        refusals = {node.name for node in parsed(FOLDER / "errors.py").body if isinstance(node, ast.ClassDef)}
+        for name, tree, node, spot in self.each():
+            if isinstance(node, ast.Raise):
+                self.assertIsInstance(node.exc, ast.Call, spot)
+                self.assertIn(node.exc.func.id, refusals, spot)
+                self.assertEqual(node.exc.keywords, [], spot)
+            if isinstance(node, ast.ExceptHandler):
+                self.assertIsNotNone(node.type, spot)
+                taken = node.type.elts if isinstance(node.type, ast.Tuple) else [node.type]
+                self.assertFalse({kind.id for kind in taken} & {"Exception", "TypeError"}, spot)

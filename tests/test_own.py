@@ -4,13 +4,28 @@ import copy
 import unittest
 
 from tests.sets import deep_kinds
+from throng.blends import graph_blend, graph_other, graph_under
+from throng.errors import ThrongError
+from throng.fields import field_part, field_row, field_span, layout_width
 from throng.graphs import graph_has, graph_least, graph_of, graph_rows, graph_size
 from throng.heaps import heap_apart, heap_has, heap_less, heap_meet, heap_missing, heap_parted, heap_size
 from throng.rows import row_less
+from throng.rules import rule_deed, rule_first, rule_needed, rule_shares, rules_thinned
+from throng.ways import Tree, way_found, way_rows, ways_thinned
 
 HEAPS = [
     [], ["-"], ["0"], ["0", "1"], ["---"], ["01-"], ["1--", "01-", "1--"], ["11-", "0-1", "---"],
     ["0" + "-" * 47, "-" * 47 + "1"], ["111", "000", "010"],
+]
+LAYOUTS = [[("to", 3)], [("a", 1), ("to", 2)], [("to", 1), ("b", 1), ("c", 1)]]
+PARTS = [[], [("to", "---")], [("to", "01")], [("to", "0"), ("c", "-")], [("to", "1"), ("to", "1")], [("no", "0")]]
+RULES = [
+    [], [("---", "pass", "---")], [("0--", "drop", "1--"), ("-1-", "pass", "--0"), ("0-1", "pass", "---")],
+    [("01-", "pass", "---"), ("01-", "pass", "---"), ("---", "pass", "0--")], [("1--", "drop", "---")],
+]
+WAYS = [
+    [], [("", "a")], [("0", "a"), ("1", "b")], [("01", "b"), ("", "a"), ("0", "a")],
+    [("110", "c"), ("111", "c"), ("11", "b"), ("", "c")],
 ]
 OF_ONE = [heap_apart, heap_size, graph_of]
 OF_TWO = [heap_meet, heap_less, heap_missing, heap_parted]
@@ -23,8 +38,48 @@ def pairs():
                 yield one, other
 
 
+def later_calls():
+    """As calls, for blends, fields, rules and ways."""
+    for one, other in pairs():
+        for word in ("join", "common", "less", "either"):
+            yield graph_blend, [graph_of(one), graph_of(other), word]
+    for heap in HEAPS:
+        yield graph_other, [graph_of(heap)]
+        width = len(heap[0]) if heap else 3
+        for over in ("-" * width, "1" * width, "-" * (width - 1) + "0"):
+            yield graph_under, [graph_of(heap), over]
+    for layout in LAYOUTS:
+        yield layout_width, [list(layout)]
+        for name in ("to", "no"):
+            yield field_span, [list(layout), name]
+            yield field_part, [list(layout), name, "0-1"]
+        for parts in PARTS:
+            yield field_row, [list(layout), list(parts)]
+    for rules in RULES:
+        yield rule_first, [list(rules), "010"]
+        yield rule_deed, [list(rules), "010"]
+        for row in ("---", "0--", "011"):
+            yield rule_shares, [list(rules), row]
+        for number in range(-1, len(rules) + 1):
+            yield rule_needed, [list(rules), number, 3]
+        yield rules_thinned, [list(rules), 3]
+    for ways in WAYS:
+        yield way_found, [list(ways), "110"]
+        yield way_rows, [list(ways), 3]
+        yield ways_thinned, [list(ways), 3]
+
+
+def told_by(function, given):
+    """What is told, or the class of what is refused."""
+    try:
+        return function(*given)
+    except ThrongError as error:
+        return type(error).__name__
+
+
 def calls():
     """Every function that takes a list, with arguments of its own each time."""
+    yield from later_calls()
     for heap in HEAPS:
         for function in OF_ONE:
             yield function, [list(heap)]
@@ -53,13 +108,13 @@ class Own(unittest.TestCase):
     def test_what_is_handed_in_stays(self):
         for function, given in calls():
             before = copy.deepcopy(given)
-            function(*given)
+            told_by(function, given)
             self.assertEqual(given, before, function)
             self.assertEqual(deep_kinds(given), deep_kinds(before), function)
 
     def test_what_was_told_stays_when_what_was_handed_in_changes(self):
         for function, given in calls():
-            told = function(*given)
+            told = told_by(function, given)
             before = copy.deepcopy(told)
             spoil(given)
             self.assertEqual(told, before, function)
@@ -67,16 +122,16 @@ class Own(unittest.TestCase):
     def test_what_was_told_can_be_changed(self):
         for function, given in calls():
             before = copy.deepcopy(given)
-            told = function(*given)
+            told = told_by(function, given)
             first = copy.deepcopy(told)
             spoil(told)
             self.assertEqual(given, before, function)
-            self.assertEqual(function(*given), first, function)
+            self.assertEqual(told_by(function, given), first, function)
 
     def test_two_answers_have_no_list_in_common(self):
         for function, given in calls():
-            one = function(*given)
-            other = function(*given)
+            one = told_by(function, given)
+            other = told_by(function, given)
             before = copy.deepcopy(other)
             spoil(one)
             self.assertEqual(other, before, function)
@@ -104,3 +159,29 @@ class Own(unittest.TestCase):
             graph = graph_of(heap)
             graph[1].append((0, 0, 1))
             self.assertEqual(graph_of(heap)[1], [])
+
+    def test_ways_told_by_a_tree_are_own(self):
+        for ways in WAYS:
+            tree = Tree()
+            for beginning, door in ways:
+                tree.put_way(beginning, door)
+            for told in (tree.told_ways, lambda: tree.ways_below(""), lambda: tree.ways_below("1")):
+                first = told()
+                before = list(first)
+                second = told()
+                spoil(first)
+                self.assertEqual(second, before)
+                self.assertEqual(told(), before)
+            self.assertEqual([tree.way_at(signs) for signs in ("", "0", "110")],
+                             [way_found(ways, signs) for signs in ("", "0", "110")])
+
+    def test_what_a_tree_told_stays_when_the_tree_changes(self):
+        tree = Tree()
+        tree.put_way("0", "a")
+        tree.put_way("01", "b")
+        told = [tree.told_ways(), tree.ways_below("0"), tree.ways_below("1")]
+        before = copy.deepcopy(told)
+        tree.strike_way("0")
+        tree.put_way("1", "c")
+        self.assertEqual(told, before)
+        self.assertEqual(tree.told_ways(), [("01", "b"), ("1", "c")])

@@ -2,18 +2,9 @@
 
 import unittest
 
-from tests.sets import all_letters, all_rows, letters_in
+from tests.sets import OTHER_SIGNS, OTHER_THINGS, all_letters, all_rows, letters_in
 from throng.rows import is_letter, is_row, row_holds, row_least, row_less, row_meet
 from throng.rows import row_size, row_within, row_written
-
-OTHER_THINGS = [
-    None, True, False, 0, 1, 2, 10, 101, -1, [], (), [""], ("",), ["0"], ("0",), ["0", "1"], ("0", "1"),
-    ["0", "1", "-"], ("0", "1", "-"), [0], (1,), [0, 1], (0, 1), [None], (True,), [["0"]], [("0", "1")],
-]
-OTHER_SIGNS = [
-    "2", "9", "a", "O", "o", "l", "I", " ", "\n", "\r", "\t", "\0", "_", "+", "*", "?", "x", ".", "\u2212",
-    "\u2013", "\u00ad", "\uff10", "\uff11", "\u0660", "\u0661", "\u00b9", "\x0b", "\x0c", "\x85", "\u2028", "\u200b",
-]
 
 
 class Kinds(unittest.TestCase):

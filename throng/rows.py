@@ -53,6 +53,10 @@ def row_least(row):
     return row.replace("-", "0")
 
 
+def row_most(row):
+    return row.replace("-", "1")
+
+
 def row_written(row, over):
     return "".join([mine if its == "-" else its for mine, its in zip(row, over)])
 
