@@ -20,6 +20,11 @@ OTHER_SIGNS = [
 # Twelve places of 48, the first and the last among them.
 PLACES = [0, 3, 4, 11, 12, 20, 23, 30, 31, 40, 46, 47]
 
+# Rules and a layout of two places.
+PASS = [("--", "pass", "--")]
+TO = [("a", 1), ("to", 1)]
+HOUSES = ["a", "b", "ab", "hut", "inn", "z", "zz", "longname", "mill", "c"]
+
 
 def all_letters(width):
     return ["".join(signs) for signs in itertools.product("01", repeat=width)]
@@ -130,3 +135,158 @@ def plain_graph(letters, width):
 def moved_graph(graph, places):
     """The graph with its nodes' places led to these."""
     return (graph[0], [(places[place], no, yes) for place, no, yes in graph[1]])
+
+
+def lies_in(letter, row):
+    return all(its in (sign, "-") for sign, its in zip(letter, row))
+
+
+def written(letter, over):
+    return "".join(mine if its == "-" else its for mine, its in zip(letter, over))
+
+
+def first_of(rules, letter):
+    """The number of point 15."""
+    return next((number for number, rule in enumerate(rules) if lies_in(letter, rule[0])), len(rules))
+
+
+def door_of(ways, signs):
+    """The door of point 19."""
+    for size in range(len(signs), -1, -1):
+        for beginning, door in ways:
+            if beginning == signs[:size]:
+                return door
+    return None
+
+
+def places_to(layout):
+    """The places of the field "to"."""
+    names = [name for name, size in layout for place in range(size)]
+    return [place for place, name in enumerate(names) if name == "to"]
+
+
+def plain_does(layout, house, door, letter):
+    """What point 22 tells."""
+    rules = dict(house[0])[door]
+    number = first_of(rules, letter)
+    if number == len(rules) or rules[number][1] == "drop":
+        return ("drop", number)
+    sent = written(letter, rules[number][2])
+    out = door_of(house[1], narrow(sent, places_to(layout)))
+    return ("lost",) if out is None else ("sent", out, sent)
+
+
+def plain_walk(net, house, door, letter):
+    """The trail and the end of points 27 and 28."""
+    trail = []
+    while (house, door, letter) not in trail:
+        trail.append((house, door, letter))
+        does = plain_does(net[0], dict(net[1])[house], door, letter)
+        if does[0] != "sent":
+            return (trail, (does[0], house, door) + does[1:])
+        other = [spot for line in net[2] if (house, does[1]) in line for spot in line if spot != (house, does[1])]
+        if other == []:
+            return (trail, ("out", house, does[1], does[2]))
+        (house, door), letter = other[0], does[2]
+    ring = trail[trail.index((house, door, letter)):]
+    return (trail, ("ring", min(name for name, by, signs in ring)))
+
+
+def some_signs(chance, width, places, signs):
+    """A row that tells none but these places."""
+    row = ["-"] * width
+    for place in places:
+        row[place] = chance.choice(signs)
+    return "".join(row)
+
+
+def some_layout(chance, width):
+    """Up to four fields of so many places, "to" at any of them."""
+    count = chance.randint(1, min(4, width))
+    cuts = [0] + sorted(chance.sample(range(1, width), count - 1)) + [width]
+    names = chance.sample(["a", "b", "from", "too", "t", "ot"], count)
+    names[chance.randrange(count)] = "to"
+    return [(name, cuts[number + 1] - cuts[number]) for number, name in enumerate(names)]
+
+
+def some_places(chance, layout, count):
+    """So many places in order, the first ones of the field "to" among them."""
+    ahead = places_to(layout)[:chance.randint(0, count)]
+    others = [place for place in range(sum(size for name, size in layout)) if place not in ahead]
+    return sorted(ahead + chance.sample(others, min(len(others), count - len(ahead))))
+
+
+def filled(chance, row):
+    """A letter of the row."""
+    return "".join(chance.choice("01") if sign == "-" else sign for sign in row)
+
+
+def some_house(chance, layout, places, overs, doors):
+    """A house that tells none but these places, and writes at none but those of overs."""
+    width = sum(size for name, size in layout)
+    words = chance.choice([["pass"], ["pass", "drop"], ["pass", "pass", "pass", "drop"]])
+    signs = chance.choice(["01-", "01---"])
+    gates = []
+    for door in doors:
+        rules = [(some_signs(chance, width, places, signs), chance.choice(words),
+                  some_signs(chance, width, overs, "01--")) for number in range(chance.randint(0, 4))]
+        if chance.random() < 0.7:
+            rules.append(("-" * width, "pass", some_signs(chance, width, overs, "01---")))
+        gates.append((door, rules))
+    return (gates, some_house_ways(chance, layout, places, doors))
+
+
+def some_house_ways(chance, layout, places, doors):
+    longest = next((number for number, place in enumerate(places_to(layout)) if place not in places),
+                   len(places_to(layout)))
+    beginnings = {"".join(chance.choice("01") for sign in range(chance.randint(0, longest)))
+                  for number in range(chance.randint(0, 6))}
+    if chance.random() < 0.6:
+        beginnings.add("")
+    ways = [(beginning, chance.choice(doors)) for beginning in sorted(beginnings) if doors]
+    chance.shuffle(ways)
+    return ways
+
+
+def some_net(chance, layout, places, most):
+    """A net of up to so many houses that tells none but these places."""
+    overs = chance.sample(places, chance.randint(0, min(5, len(places))))
+    houses = []
+    for name in chance.sample(HOUSES, chance.randint(1, most)):
+        doors = chance.sample(["a", "b", "c", "in", "out"], chance.choice([0, 1, 2, 2, 3]))
+        houses.append((name, some_house(chance, layout, places, overs, doors)))
+    spots = [(name, door) for name, house in houses for door, rules in house[0]]
+    chance.shuffle(spots)
+    lines = [(spots[2 * number], spots[2 * number + 1]) for number in range(len(spots) // 2)]
+    if chance.random() < 0.6:
+        lines = lines[:chance.randint(0, len(lines))]
+    return (layout, houses, lines)
+
+
+def passing(door):
+    """A house with the doors in and out that passes all letters by that door."""
+    return ([("in", list(PASS)), ("out", list(PASS))], [("", door)])
+
+
+def lines_round(names):
+    """From each house's out to the next one's in, and from the last one's to the first one's."""
+    return [((name, "out"), (after, "in")) for name, after in zip(names, names[1:] + names[:1])]
+
+
+def ring_of(names):
+    """A net of houses that pass all letters on, in a ring."""
+    return (TO, [(name, passing("out")) for name in names], lines_round(names))
+
+
+def counting(places, count):
+    """So many houses in a ring, the first of which counts up by one at so many places."""
+    rules = []
+    for behind in range(places):
+        ahead = "-" * (places - 1 - behind)
+        rules.append((ahead + "0" + "1" * behind + "-", "pass", ahead + "1" + "0" * behind + "-"))
+    rules.append(("1" * places + "-", "pass", "0" * places + "-"))
+    plain = [("-" * (places + 1), "pass", "-" * (places + 1))]
+    names = ["h" + sign for sign in "abcdefghij"[:count]]
+    houses = [(name, ([("in", list(plain)), ("out", [])], [("", "out")])) for name in names]
+    houses[0][1][0][0] = ("in", rules)
+    return ([("count", places), ("to", 1)], houses, lines_round(names))

@@ -35,6 +35,18 @@ ARGUMENTS = {
     "throng.ways": {
         "way_found": ["ways", "signs"], "way_rows": ["ways", "size"], "ways_thinned": ["ways", "size"], "Tree": [],
     },
+    "throng.houses": {
+        "house_does": ["layout", "house", "door", "letter"], "house_shares": ["layout", "house", "door", "row"],
+        "house_back": ["layout", "house", "door", "out", "graph"],
+    },
+    "throng.nets": {
+        "net_checked": ["net"], "net_spots": ["net"], "net_open": ["net"], "net_house": ["net", "name"],
+        "net_tied": ["net", "house", "door"],
+    },
+    "throng.walks": {
+        "net_walk": ["net", "house", "door", "letter"], "net_fared": ["net", "house", "door", "letter"],
+    },
+    "throng.classes": {"net_classes": ["net", "house", "door", "heap"]},
 }
 METHODS = {
     "put_way": ["beginning", "door"], "strike_way": ["beginning"], "way_at": ["signs"], "told_ways": [],
@@ -45,6 +57,12 @@ GRAPH_KIND = (tuple, [int, (list, [(tuple, [int, int, int])])])
 LAYOUT = [("a", 1), ("to", 2)]
 RULES = [("0-", "pass", "-1"), ("-1", "drop", "--")]
 WAYS = [("0", "in"), ("01", "out")]
+HOUSE = ([("in", [("0--", "pass", "--1"), ("11-", "drop", "---")]), ("out", [])], [("0", "out")])
+NET = (LAYOUT, [("a", HOUSE), ("b", HOUSE)], [(("a", "out"), ("b", "out"))])
+SPOT_KIND = (tuple, [str, str])
+GATES_KIND = (list, [(tuple, [str, (list, [(tuple, [str] * 3)] * 2)]), (tuple, [str, (list, [])])])
+HOUSE_KIND = (tuple, [GATES_KIND, (list, [(tuple, [str] * 2)])])
+IN_A = {"house": "a", "door": "in"}
 # Each with arguments by name, and the kind of what is told.
 KINDS = [
     ("rows", "is_row", {"thing": "0-", "width": 2}, bool), ("rows", "is_row", {"thing": None, "width": 2}, bool),
@@ -92,6 +110,29 @@ KINDS = [
     ("ways", "way_rows", {"ways": [], "size": 2}, [(tuple, [str, type(None)])]),
     ("ways", "ways_thinned", {"ways": WAYS, "size": 2}, [(tuple, [str, str])]),
     ("ways", "ways_thinned", {"ways": [], "size": 2}, []),
+    ("houses", "house_does", {"layout": LAYOUT, "house": HOUSE, "door": "in", "letter": "000"}, (tuple, [str] * 3)),
+    ("houses", "house_does", {"layout": LAYOUT, "house": HOUSE, "door": "in", "letter": "010"}, (tuple, [str])),
+    ("houses", "house_does", {"layout": LAYOUT, "house": HOUSE, "door": "out", "letter": "010"}, (tuple, [str, int])),
+    ("houses", "house_shares", {"layout": LAYOUT, "house": HOUSE, "door": "in", "row": "00-"},
+     [(tuple, [str, (tuple, [str, str, str])])]),
+    ("houses", "house_shares", {"layout": LAYOUT, "house": HOUSE, "door": "in", "row": "1--"},
+     [(tuple, [str, (tuple, [str, int])])]),
+    ("houses", "house_back", {"layout": LAYOUT, "house": HOUSE, "door": "in", "out": "none", "graph": (1, [])},
+     (tuple, [int, (list, [])])),
+    ("nets", "net_checked", {"net": NET}, bool), ("nets", "net_spots", {"net": NET}, [SPOT_KIND]),
+    ("nets", "net_spots", {"net": (LAYOUT, [], [])}, []), ("nets", "net_open", {"net": NET}, [SPOT_KIND]),
+    ("nets", "net_open", {"net": (LAYOUT, [], [])}, []), ("nets", "net_house", {"net": NET, "name": "b"}, HOUSE_KIND),
+    ("nets", "net_tied", {"net": NET, "house": "a", "door": "out"}, SPOT_KIND),
+    ("nets", "net_tied", {"net": NET, **IN_A}, None),
+    ("walks", "net_walk", {"net": NET, **IN_A, "letter": "010"},
+     (tuple, [(list, [(tuple, [str] * 3)]), (tuple, [str] * 3)])),
+    ("walks", "net_fared", {"net": NET, **IN_A, "letter": "010"}, (tuple, [str])),
+    ("walks", "net_fared", {"net": (LAYOUT, NET[1], []), **IN_A, "letter": "000"}, (tuple, [str] * 4)),
+    ("classes", "net_classes", {"net": NET, **IN_A, "heap": ["010"]},
+     [(tuple, [str, (tuple, [str] * 3), (list, [str])])]),
+    ("classes", "net_classes", {"net": NET, **IN_A, "heap": ["111"]},
+     [(tuple, [str, (tuple, [str, str, str, int]), (list, [str])])]),
+    ("classes", "net_classes", {"net": NET, **IN_A, "heap": []}, []),
 ]
 
 

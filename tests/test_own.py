@@ -5,12 +5,16 @@ import unittest
 
 from tests.sets import deep_kinds
 from throng.blends import graph_blend, graph_other, graph_under
+from throng.classes import net_classes
 from throng.errors import ThrongError
 from throng.fields import field_part, field_row, field_span, layout_width
 from throng.graphs import graph_has, graph_least, graph_of, graph_rows, graph_size
 from throng.heaps import heap_apart, heap_has, heap_less, heap_meet, heap_missing, heap_parted, heap_size
+from throng.houses import house_back, house_does, house_shares
+from throng.nets import net_checked, net_house, net_open, net_spots, net_tied
 from throng.rows import row_less
 from throng.rules import rule_deed, rule_first, rule_needed, rule_shares, rules_thinned
+from throng.walks import net_fared, net_walk
 from throng.ways import Tree, way_found, way_rows, ways_thinned
 
 HEAPS = [
@@ -26,6 +30,16 @@ RULES = [
 WAYS = [
     [], [("", "a")], [("0", "a"), ("1", "b")], [("01", "b"), ("", "a"), ("0", "a")],
     [("110", "c"), ("111", "c"), ("11", "b"), ("", "c")],
+]
+HOUSE_LISTS = [
+    ([], []), ([("in", []), ("out", [("---", "pass", "---")])], [("", "in")]),
+    ([("in", RULES[2]), ("out", RULES[3])], [("0", "out"), ("", "in")]),
+    ([("out", [("---", "pass", "--1")]), ("in", [("0--", "pass", "1--"), ("---", "pass", "---")])], [("", "out")]),
+]
+LINES = [
+    [], [(("b", "out"), ("c", "in"))], [(("d", "out"), ("d", "in")), (("b", "in"), ("c", "out"))],
+    [(("b", "none"), ("c", "in"))], [(("b", "in"), ("b", "in"))],
+    [(("d", "out"), ("b", "in")), (("b", "out"), ("d", "in"))],
 ]
 OF_ONE = [heap_apart, heap_size, graph_of]
 OF_TWO = [heap_meet, heap_less, heap_missing, heap_parted]
@@ -69,6 +83,38 @@ def later_calls():
         yield ways_thinned, [list(ways), 3]
 
 
+def all_nets():
+    """Nets that hold no list in common; those with faults in their lines too."""
+    for layout in LAYOUTS:
+        for lines in LINES:
+            yield copy.deepcopy((layout, list(zip("abcd", HOUSE_LISTS)), lines))
+
+
+def net_calls():
+    """As calls, for houses, nets, walks and classes."""
+    for layout in LAYOUTS:
+        for house in HOUSE_LISTS:
+            for door in ("in", "out"):
+                given = [layout, house, door]
+                yield house_does, copy.deepcopy(given) + ["010"]
+                yield house_shares, copy.deepcopy(given) + ["0--"]
+                for out in ("in", "out", "none"):
+                    yield house_back, copy.deepcopy(given) + [out, graph_of(["01-", "1-0"])]
+    for net in all_nets():
+        yield net_checked, [copy.deepcopy(net)]
+        if told_by(net_checked, [net]) is True:
+            yield net_spots, [copy.deepcopy(net)]
+            yield net_open, [copy.deepcopy(net)]
+            for name in ("a", "b", "c", "d", "e"):
+                yield net_house, [copy.deepcopy(net), name]
+                yield net_tied, [copy.deepcopy(net), name, "in"]
+                for letter in ("000", "101", "10"):
+                    yield net_walk, [copy.deepcopy(net), name, "in", letter]
+                    yield net_fared, [copy.deepcopy(net), name, "in", letter]
+                for heap in ([], ["---"], ["1--", "01-", "1--"]):
+                    yield net_classes, [copy.deepcopy(net), name, "out", list(heap)]
+
+
 def told_by(function, given):
     """What is told, or the class of what is refused."""
     try:
@@ -80,6 +126,7 @@ def told_by(function, given):
 def calls():
     """Every function that takes a list, with arguments of its own each time."""
     yield from later_calls()
+    yield from net_calls()
     for heap in HEAPS:
         for function in OF_ONE:
             yield function, [list(heap)]
@@ -144,6 +191,15 @@ class Own(unittest.TestCase):
             self.assertIsNone(heap_missing(given, given))
             self.assertIsNone(heap_parted(given, given))
             self.assertEqual(given, heap)
+
+    def test_house_told_is_own(self):
+        net = next(all_nets())
+        for name, house in net[1]:
+            before = copy.deepcopy(net)
+            told = net_house(net, name)
+            self.assertEqual(told, house)
+            spoil(told)
+            self.assertEqual(net, before)
 
     def test_rows_less_are_own(self):
         for one, other in (("0", "1"), ("-", "1"), ("1", "1"), ("---", "010")):

@@ -4,24 +4,16 @@ import itertools
 import random
 import unittest
 
-from tests.sets import PLACES, all_letters, all_rows, check_apart, check_refused, deep_kinds, is_some_in_order
-from tests.sets import letters_in, narrow, spread
+from tests.sets import PLACES, all_letters, all_rows, check_apart, check_refused, deep_kinds, first_of
+from tests.sets import is_some_in_order, letters_in, narrow, spread, written
 from throng.rules import rule_deed, rule_first, rule_needed, rule_shares, rules_thinned
-
-
-def lies_in(letter, row):
-    return all(its in (sign, "-") for sign, its in zip(letter, row))
-
-
-def first_of(rules, letter):
-    return next((number for number, rule in enumerate(rules) if lies_in(letter, rule[0])), len(rules))
 
 
 def deed_of(rules, letter):
     number = first_of(rules, letter)
     if number == len(rules) or rules[number][1] == "drop":
         return ("drop", None)
-    return ("pass", "".join(mine if its == "-" else its for mine, its in zip(letter, rules[number][2])))
+    return ("pass", written(letter, rules[number][2]))
 
 
 def without(rules, number):

@@ -4,7 +4,7 @@ import itertools
 import random
 import unittest
 
-from tests.sets import OTHER_SIGNS, OTHER_THINGS, all_letters, check_apart, check_refused, deep_kinds
+from tests.sets import OTHER_SIGNS, OTHER_THINGS, all_letters, check_apart, check_refused, deep_kinds, door_of
 from tests.sets import is_some_in_order, letters_in
 from throng.ways import Tree, way_found, way_rows, ways_thinned
 
@@ -12,14 +12,6 @@ from throng.ways import Tree, way_found, way_rows, ways_thinned
 def all_signs(most):
     """All texts of 0 to so many signs, sorted."""
     return sorted("".join(signs) for size in range(most + 1) for signs in itertools.product("01", repeat=size))
-
-
-def door_of(ways, signs):
-    for size in range(len(signs), -1, -1):
-        for beginning, door in ways:
-            if beginning == signs[:size]:
-                return door
-    return None
 
 
 def doors_of(ways, size):

@@ -5,7 +5,7 @@ count, so heaps are narrowed to these first and what comes of it is spread
 over all places again.
 """
 
-from throng.rows import row_holds, row_least, row_meet, row_narrowed, row_size, row_spread, row_written
+from throng.rows import row_holds, row_least, row_narrowed, row_size, row_spread
 
 
 def heap_has(heap, letter):
@@ -66,52 +66,6 @@ def split_below(one, other, left):
 
 def split_begun(sign, parts):
     return [(sign + signs, in_one, in_other) for signs, in_one, in_other in parts]
-
-
-# The row's letters are split into rows apart, each told with the number of the
-# first row of the heap in which its letters lie, or with how many rows there are.
-def heap_shares(heap, row):
-    # A last row with all letters gets those that lie in none of the heap's.
-    rows = heap + ["-" * len(row)]
-    met = [(mine, number) for number, mine in enumerate(rows) if row_meet(mine, row) is not None]
-    places = [place for place in heap_places([mine for mine, number in met]) if row[place] == "-"]
-    firsts = firsts_of([(row_narrowed(mine, places), number) for mine, number in met], len(places))
-    parts = shares_below(firsts, len(places))
-    return [(row_written(row, row_spread(signs, places, len(row))), number) for signs, number in parts]
-
-
-# The first number counts for alike rows, and nothing counts behind a row of all
-# letters: so such a row is always the last of the firsts.
-def firsts_of(pairs, width):
-    firsts = {}
-    for signs, number in pairs:
-        firsts.setdefault(signs, number)
-        if signs == "-" * width:
-            break
-    return firsts
-
-
-def shares_below(firsts, left):
-    if len(firsts) == 1:
-        return [("-" * left, firsts["-" * left])]
-    no_firsts = firsts_side(firsts, "0", left - 1)
-    yes_firsts = firsts_side(firsts, "1", left - 1)
-    no = shares_below(no_firsts, left - 1)
-    # Halves that are alike are walked and told as one, so that the rows stay few.
-    if no_firsts == yes_firsts:
-        return shares_begun("-", no)
-    yes = shares_below(yes_firsts, left - 1)
-    if no == yes:
-        return shares_begun("-", no)
-    return shares_begun("0", no) + shares_begun("1", yes)
-
-
-def firsts_side(firsts, sign, width):
-    return firsts_of([(signs[1:], number) for signs, number in firsts.items() if signs[0] in (sign, "-")], width)
-
-
-def shares_begun(sign, shares):
-    return [(sign + signs, number) for signs, number in shares]
 
 
 def is_settled(heap, width):

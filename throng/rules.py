@@ -1,7 +1,7 @@
 """Rules: the first one in whose row a letter lies counts, and what it does."""
 
 from throng.errors import NoRule
-from throng.heaps import heap_shares
+from throng.forks import heap_shares
 from throng.rows import row_holds, row_least, row_most, row_written
 
 
@@ -16,8 +16,12 @@ def rule_deed(rules, letter):
     return deed_by(rules, rule_first(rules, letter), letter)
 
 
+def is_dropped(rules, number):
+    return number == len(rules) or rules[number][1] == "drop"
+
+
 def deed_by(rules, number, letter):
-    if number == len(rules) or rules[number][1] == "drop":
+    if is_dropped(rules, number):
         return ("drop", None)
     return ("pass", row_written(letter, rules[number][2]))
 

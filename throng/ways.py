@@ -1,7 +1,7 @@
 """Ways: signs go by the longest beginning that they have."""
 
 from throng.errors import Misfit, NoWay, Twice
-from throng.heaps import heap_shares
+from throng.forks import heap_shares
 from throng.rows import is_letter
 
 LONGEST = 48

@@ -1,0 +1,79 @@
+"""Houses: rules at each door, and behind them ways by the signs of the field "to"."""
+
+from throng.blends import graph_blend, graph_under
+from throng.errors import NoDoor
+from throng.fields import field_part, field_span, layout_width
+from throng.forks import fork_of, fork_parts
+from throng.graphs import graph_of
+from throng.rows import row_written
+from throng.rules import is_dropped, rule_first
+from throng.ways import door_at, longest_first, way_found, way_row
+
+
+def gate_rules(house, door):
+    for gate, rules in house[0]:
+        if gate == door:
+            return rules
+    raise NoDoor(f"no door {door!r}")
+
+
+def house_does(layout, house, door, letter):
+    rules = gate_rules(house, door)
+    number = rule_first(rules, letter)
+    if is_dropped(rules, number):
+        return ("drop", number)
+    sent = row_written(letter, rules[number][2])
+    return sent_by(way_found(house[1], field_part(layout, "to", sent)), sent)
+
+
+def sent_by(door, thing):
+    return ("lost",) if door is None else ("sent", door, thing)
+
+
+def house_shares(layout, house, door, row):
+    return Gate(layout, house, door).parts_of(row, "-" * len(row))
+
+
+def house_back(layout, house, door, out, graph):
+    # Rows with one over are told as one heap, so that there are few graphs to join.
+    heaps = {}
+    for part, what in house_shares(layout, house, door, "-" * layout_width(layout)):
+        if what[0] == "sent" and what[1] == out:
+            heaps.setdefault(what[2], []).append(part)
+    back = (0, [])
+    for over, heap in heaps.items():
+        sent = graph_blend(graph_of(heap), graph_under(graph, over), "common")
+        back = graph_blend(back, sent, "join")
+    return back
+
+
+# The row of the letters whose signs at the field "to" have the way's beginning.
+def to_row(layout, way):
+    first = field_span(layout, "to")[0]
+    return "-" * first + way_row(way, layout_width(layout) - first)
+
+
+# What a house does by one door, as forks: these are made once, and asked for
+# many rows.
+class Gate:
+    def __init__(self, layout, house, door):
+        self.rules = gate_rules(house, door)
+        self.ways = longest_first(house[1])
+        every = "-" * layout_width(layout)
+        self.rules_fork = fork_of([rule[0] for rule in self.rules], every)
+        self.ways_fork = fork_of([to_row(layout, way) for way in self.ways], every)
+
+    # The row is of letters as they once were; they come in with the over worn
+    # written on them, and what is told has all that is written on them by then.
+    def parts_of(self, row, worn):
+        parts = []
+        for part, number in fork_parts(self.rules_fork, row, worn):
+            if is_dropped(self.rules, number):
+                parts.append((part, ("drop", number)))
+            else:
+                parts.extend(self.sent_parts(part, row_written(worn, self.rules[number][2])))
+        return parts
+
+    def sent_parts(self, row, worn):
+        parts = fork_parts(self.ways_fork, row, worn)
+        return [(part, sent_by(door_at(self.ways, number), worn)) for part, number in parts]
