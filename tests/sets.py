@@ -24,6 +24,7 @@ PLACES = [0, 3, 4, 11, 12, 20, 23, 30, 31, 40, 46, 47]
 PASS = [("--", "pass", "--")]
 TO = [("a", 1), ("to", 1)]
 HOUSES = ["a", "b", "ab", "hut", "inn", "z", "zz", "longname", "mill", "c"]
+END_KINDS = {"drop": [str, str, str, int], "lost": [str] * 3, "out": [str] * 4, "ring": [str] * 2}
 
 
 def all_letters(width):
@@ -137,6 +138,11 @@ def moved_graph(graph, places):
     return (graph[0], [(places[place], no, yes) for place, no, yes in graph[1]])
 
 
+def graph_at(choices, places):
+    """The graph of the letters that have one of these choices at the places."""
+    return moved_graph(plain_graph(choices, len(places)), places)
+
+
 def lies_in(letter, row):
     return all(its in (sign, "-") for sign, its in zip(letter, row))
 
@@ -190,6 +196,70 @@ def plain_walk(net, house, door, letter):
         (house, door), letter = other[0], does[2]
     ring = trail[trail.index((house, door, letter)):]
     return (trail, ("ring", min(name for name, by, signs in ring)))
+
+
+def fared(end):
+    """How a letter fares by point 29 that ends so."""
+    return {"out": end, "ring": ("ring",), "lost": ("lost",), "drop": ("lost",)}[end[0]]
+
+
+def spots_of(net):
+    return sorted((name, door) for name, house in net[1] for door, rules in house[0])
+
+
+def rules_of(net, house, door):
+    return dict(dict(net[1])[house][0])[door]
+
+
+def open_of(net):
+    tied = [spot for line in net[2] for spot in line]
+    return [spot for spot in spots_of(net) if spot not in tied]
+
+
+def width_of(net):
+    return sum(size for name, size in net[0])
+
+
+def plain_walks(chance, net, places, house, door):
+    """For each choice at these places a letter that has it, with its trail and its end."""
+    walks = {}
+    for choice, row in zip(all_letters(len(places)), spread(all_letters(len(places)), places, width_of(net))):
+        letter = filled(chance, row)
+        walks[choice] = (letter,) + plain_walk(net, house, door, letter)
+    return walks
+
+
+def plain_picture(walks, places):
+    """The picture of point 32, of the walks of letters that have each choice at the places."""
+    choices = {}
+    for choice, (letter, trail, end) in walks.items():
+        choices.setdefault(end[:3] if end[0] == "out" else end, set()).add(choice)
+    return [(end, graph_at(choices[end], places)) for end in sorted(choices)]
+
+
+def check_classes(test, classes, width, places, heap, walks):
+    """That they are a list of point 30 for the heap, which tells with the net none but these places."""
+    test.assertIs(type(classes), list)
+    beside = [place for place in range(width) if place not in places]
+    for one in classes:
+        row, end, met = one
+        test.assertEqual(deep_kinds(one), (tuple, [str, (tuple, END_KINDS[end[0]]), (list, [str] * len(met))]))
+        test.assertEqual((len(row), narrow(row, beside)), (width, "-" * len(beside)))
+        if end[0] == "out":
+            test.assertEqual((len(end[3]), set(end[3]) - set("01-")), (width, set()))
+        for choice in letters_in(narrow(row, places)):
+            check_class_has(test, one, *walks[choice])
+    check_apart(test, [narrow(row, places) for row, end, met in classes], len(places),
+                letters_of([narrow(row, places) for row in heap]))
+
+
+def check_class_has(test, one, letter, trail, end):
+    """That a letter that is walked so ends by the class's end and has met its houses."""
+    if end[0] == "out":
+        test.assertEqual(one[1][:3] + (written(letter, one[1][3]),), end)
+    else:
+        test.assertEqual(one[1], end)
+    test.assertEqual(one[2], sorted({step[0] for step in trail}))
 
 
 def some_signs(chance, width, places, signs):
@@ -278,15 +348,19 @@ def ring_of(names):
     return (TO, [(name, passing("out")) for name in names], lines_round(names))
 
 
-def counting(places, count):
-    """So many houses in a ring, the first of which counts up by one at so many places."""
+def counting(places, count, rest=0):
+    """So many houses in a ring: the first counts up by one at so many places, the last asks for the rest's signs."""
+    other = "-" * (1 + rest)
     rules = []
     for behind in range(places):
         ahead = "-" * (places - 1 - behind)
-        rules.append((ahead + "0" + "1" * behind + "-", "pass", ahead + "1" + "0" * behind + "-"))
-    rules.append(("1" * places + "-", "pass", "0" * places + "-"))
-    plain = [("-" * (places + 1), "pass", "-" * (places + 1))]
+        rules.append((ahead + "0" + "1" * behind + other, "pass", ahead + "1" + "0" * behind + other))
+    rules.append(("1" * places + other, "pass", "0" * places + other))
+    bare = "-" * (places + 1 + rest)
     names = ["h" + sign for sign in "abcdefghij"[:count]]
-    houses = [(name, ([("in", list(plain)), ("out", [])], [("", "out")])) for name in names]
+    houses = [(name, ([("in", [(bare, "pass", bare)]), ("out", [])], [("", "out")])) for name in names]
+    if rest:
+        houses[-1][1][0][0] = ("in", [(bare[rest:] + letter, "pass", bare) for letter in all_letters(rest)])
     houses[0][1][0][0] = ("in", rules)
-    return ([("count", places), ("to", 1)], houses, lines_round(names))
+    layout = [("count", places), ("to", 1), ("rest", rest)]
+    return (layout if rest else layout[:2], houses, lines_round(names))

@@ -3,58 +3,28 @@
 import random
 import unittest
 
-from tests.sets import PASS, TO, all_letters, check_apart, check_refused, counting, deep_kinds, filled, letters_in
-from tests.sets import letters_of, narrow, passing, plain_walk, ring_of, some_heaps, some_layout, some_net, some_places
-from tests.sets import some_signs, spread, written
+from tests.sets import END_KINDS, PASS, TO, all_letters, check_class_has, check_classes, check_refused, counting
+from tests.sets import letters_in, passing, plain_walks, ring_of, some_heaps, some_layout, some_net, some_places
+from tests.sets import some_signs, spots_of, width_of, written
 from throng.classes import net_classes
 from throng.walks import net_walk
 
-END_KINDS = {"drop": [str, str, str, int], "lost": [str] * 3, "out": [str] * 4, "ring": [str] * 2}
-
-
-def spots_of(net):
-    return [(name, door) for name, house in net[1] for door, rules in house[0]]
-
 
 class Classes(unittest.TestCase):
-    def check_kinds(self, classes, width):
-        self.assertIs(type(classes), list)
-        for one in classes:
-            self.assertIs(type(one), tuple)
-            row, end, met = one
-            self.assertEqual((type(row), len(row)), (str, width))
-            self.assertEqual(deep_kinds(end), (tuple, END_KINDS[end[0]]))
-            self.assertEqual(deep_kinds(met), (list, [str] * len(met)))
-            if end[0] == "out":
-                self.assertEqual((len(end[3]), set(end[3]) - set("01-")), (width, set()))
-
-    def check_letter(self, walk, letter, end, met):
-        """That the letter, walked so, ends by the class's end and has met its houses."""
-        if walk[1][0] == "out":
-            self.assertEqual(end[:3] + (written(letter, end[3]),), walk[1])
-        else:
-            self.assertEqual(end, walk[1])
-        self.assertEqual(met, sorted({step[0] for step in walk[0]}))
-
-    def check(self, net, house, door, heap, walks):
-        """Walks has the walk of each letter that is laid in there."""
-        width = sum(size for name, size in net[0])
-        classes = net_classes(net, house, door, heap)
-        self.check_kinds(classes, width)
-        check_apart(self, [row for row, end, met in classes], width, letters_of(heap))
-        for row, end, met in classes:
-            for letter in letters_in(row):
-                self.check_letter(walks[letter], letter, end, met)
-        return classes
+    def check_at(self, net, places, spots, heaps):
+        """Holds the classes at the spots against a letter for each choice at the places."""
+        chance = random.Random(30)
+        ends = []
+        for house, door in spots:
+            walks = plain_walks(chance, net, places, house, door)
+            for heap in heaps:
+                classes = net_classes(net, house, door, heap)
+                check_classes(self, classes, width_of(net), places, heap, walks)
+                ends.extend(end[0] for row, end, met in classes)
+        return ends
 
     def check_spots(self, net, heaps):
-        width = sum(size for name, size in net[0])
-        ends = []
-        for house, door in spots_of(net):
-            walks = {letter: plain_walk(net, house, door, letter) for letter in all_letters(width)}
-            for heap in heaps:
-                ends.extend(end[0] for row, end, met in self.check(net, house, door, heap, walks))
-        return ends
+        return self.check_at(net, range(width_of(net)), spots_of(net), heaps)
 
 
 class SmallNets(Classes):
@@ -90,35 +60,16 @@ class SmallNets(Classes):
             net = some_net(chance, some_layout(chance, 4), range(4), 6)
             for house, door in spots_of(net):
                 for letter in all_letters(4):
-                    walk = net_walk(net, house, door, letter)
                     classes = net_classes(net, house, door, [letter])
                     self.assertEqual([row for row, end, met in classes], [letter])
-                    self.check_letter(walk, letter, classes[0][1], classes[0][2])
-                for row, end, met in net_classes(net, house, door, ["----"]):
-                    for letter in letters_in(row):
-                        self.check_letter(net_walk(net, house, door, letter), letter, end, met)
+                    check_class_has(self, classes[0], letter, *net_walk(net, house, door, letter))
+                for one in net_classes(net, house, door, ["----"]):
+                    for letter in letters_in(one[0]):
+                        check_class_has(self, one, letter, *net_walk(net, house, door, letter))
 
 
 class WideNets(Classes):
     """Nets of up to 48 places, which tell with the heap at most twelve of them."""
-
-    def check_wide(self, chance, net, places, heap, spots):
-        width = sum(size for name, size in net[0])
-        beside = [place for place in range(width) if place not in places]
-        rows = spread(all_letters(len(places)), places, width)
-        for house, door in spots:
-            classes = net_classes(net, house, door, heap)
-            self.check_kinds(classes, width)
-            for row, end, met in classes:
-                self.assertEqual(narrow(row, beside), "-" * len(beside))
-            check_apart(self, [narrow(row, places) for row, end, met in classes], len(places),
-                        letters_of([narrow(row, places) for row in heap]))
-            of_choice = {choice: (end, met) for row, end, met in classes for choice in letters_in(narrow(row, places))}
-            for row in rows:
-                if narrow(row, places) in of_choice:
-                    letter = filled(chance, row)
-                    end, met = of_choice[narrow(row, places)]
-                    self.check_letter(plain_walk(net, house, door, letter), letter, end, met)
 
     def test_some_nets(self):
         chance = random.Random(47)
@@ -128,8 +79,7 @@ class WideNets(Classes):
                 places = some_places(chance, layout, count)
                 net = some_net(chance, layout, places, 6)
                 heap = [some_signs(chance, width, places, "01--") for row in range(chance.randint(0, 9))]
-                self.check_wide(chance, net, places, heap, spots_of(net))
-                self.check_wide(chance, net, places, ["-" * width], spots_of(net))
+                self.check_at(net, places, spots_of(net), [heap, ["-" * width]])
 
     def test_heap_tells_other_places_than_the_net(self):
         chance = random.Random(30)
@@ -137,7 +87,7 @@ class WideNets(Classes):
             net = some_net(chance, [("a", 20), ("to", 20), ("b", 8)], [0, 19, 20, 21], 5)
             places = [0, 5, 19, 20, 21, 39, 47]
             heap = [some_signs(chance, 48, [0, 5, 39, 47], "01--") for row in range(6)]
-            self.check_wide(chance, net, places, heap, spots_of(net))
+            self.check_at(net, places, spots_of(net), [heap])
 
     def test_twelve_places(self):
         chance = random.Random(12)
@@ -146,7 +96,7 @@ class WideNets(Classes):
             places = [0, 2, 11, 18, 19, 20, 21, 22, 23, 31, 46, 47]
             net = some_net(chance, layout, places, 10)
             heap = [some_signs(chance, 48, places, "01-----") for row in range(20)]
-            self.check_wide(chance, net, places, heap, spots_of(net)[:2])
+            self.check_at(net, places, spots_of(net)[:2], [heap])
 
     def test_many_rules_ways_and_rows(self):
         chance = random.Random(300)
@@ -161,7 +111,7 @@ class WideNets(Classes):
             houses.append((name, (gates, ways)))
         lines = [(("a", "out"), ("b", "in")), (("b", "out"), ("c", "in"))]
         heap = [some_signs(chance, 48, places, "01-") for row in range(300)]
-        self.check_wide(chance, ([("a", 20), ("to", 20), ("b", 8)], houses, lines), places, heap, [("b", "in")])
+        self.check_at(([("a", 20), ("to", 20), ("b", 8)], houses, lines), places, [("b", "in")], [heap])
 
 
 class ClassesByHand(Classes):

@@ -47,10 +47,21 @@ ARGUMENTS = {
         "net_walk": ["net", "house", "door", "letter"], "net_fared": ["net", "house", "door", "letter"],
     },
     "throng.classes": {"net_classes": ["net", "house", "door", "heap"]},
+    "throng.backs": {"net_back": ["net", "house", "door", "graph"], "net_picture": ["net", "house", "door"]},
+    "throng.asks": {"can_come": ["net", "house", "door", "heap", "goal", "beside"]},
+    "throng.keeps": {"Keeper": ["net"]},
+    "throng.twins": {"net_parted": ["one", "other"]},
 }
-METHODS = {
+DEFAULTS = {("can_come", "beside"): None}
+TREE_METHODS = {
     "put_way": ["beginning", "door"], "strike_way": ["beginning"], "way_at": ["signs"], "told_ways": [],
     "ways_below": ["signs"],
+}
+KEEPER_METHODS = {
+    "told": ["house", "door"], "picture": ["house", "door"], "net_now": [],
+    "put_rule": ["house", "door", "number", "rule"], "strike_rule": ["house", "door", "number"],
+    "put_way": ["house", "beginning", "door"], "strike_way": ["house", "beginning"], "tie": ["one", "other"],
+    "untie": ["house", "door"],
 }
 GRAPH = (2, [(1, 0, 1)])
 GRAPH_KIND = (tuple, [int, (list, [(tuple, [int, int, int])])])
@@ -62,6 +73,9 @@ NET = (LAYOUT, [("a", HOUSE), ("b", HOUSE)], [(("a", "out"), ("b", "out"))])
 SPOT_KIND = (tuple, [str, str])
 GATES_KIND = (list, [(tuple, [str, (list, [(tuple, [str] * 3)] * 2)]), (tuple, [str, (list, [])])])
 HOUSE_KIND = (tuple, [GATES_KIND, (list, [(tuple, [str] * 2)])])
+NET_KIND = (tuple, [(list, [(tuple, [str, int])] * 2), (list, [(tuple, [str, HOUSE_KIND])] * 2),
+                    (list, [(tuple, [SPOT_KIND, SPOT_KIND])])])
+ENDS_KIND = [(tuple, [str, (tuple, [str, str, str, int]), (list, [str])])]
 IN_A = {"house": "a", "door": "in"}
 # Each with arguments by name, and the kind of what is told.
 KINDS = [
@@ -131,8 +145,19 @@ KINDS = [
     ("classes", "net_classes", {"net": NET, **IN_A, "heap": ["010"]},
      [(tuple, [str, (tuple, [str] * 3), (list, [str])])]),
     ("classes", "net_classes", {"net": NET, **IN_A, "heap": ["111"]},
-     [(tuple, [str, (tuple, [str, str, str, int]), (list, [str])])]),
+     ENDS_KIND),
     ("classes", "net_classes", {"net": NET, **IN_A, "heap": []}, []),
+    ("backs", "net_back", {"net": NET, **IN_A, "graph": GRAPH}, [(tuple, [SPOT_KIND, (tuple, [int, (list, [])])])]),
+    ("backs", "net_picture", {"net": NET, "house": "b", "door": "out"},
+     [(tuple, [(tuple, [str, str, str, int]), (tuple, [int, (list, [])])])]),
+    ("asks", "can_come", {"net": NET, **IN_A, "heap": ["111"], "goal": ("b", "in", ["---"]), "beside": "b"},
+     (tuple, [str, (list, ENDS_KIND)])),
+    ("asks", "can_come", {"net": NET, **IN_A, "heap": [], "goal": ("b", "in", [])}, (tuple, [str, (list, [])])),
+    ("asks", "can_come", {"net": (LAYOUT, NET[1], []), **IN_A, "heap": ["---"], "goal": ("a", "out", ["---"])},
+     (tuple, [str, str])),
+    ("twins", "net_parted", {"one": NET, "other": NET}, None),
+    ("twins", "net_parted", {"one": (LAYOUT, [("a", HOUSE)], []), "other": (LAYOUT, [("a", (HOUSE[0], []))], [])},
+     (tuple, [str] * 3)),
 ]
 
 
@@ -143,7 +168,8 @@ class Interface(unittest.TestCase):
                 parameters = inspect.signature(getattr(importlib.import_module(module), name)).parameters
                 self.assertEqual(list(parameters), wanted, name)
                 for parameter in parameters.values():
-                    self.assertIs(parameter.default, inspect.Parameter.empty, name)
+                    default = DEFAULTS.get((name, parameter.name), inspect.Parameter.empty)
+                    self.assertIs(parameter.default, default, name)
 
     def test_kinds(self):
         for module, name, given, wanted in KINDS:
@@ -163,10 +189,16 @@ class Interface(unittest.TestCase):
         node = (tuple, [int, int, int])
         self.assertEqual(deep_kinds(graph), (tuple, [int, (list, [node, node])]))
 
-    def test_methods_of_the_tree(self):
-        tree = importlib.import_module("throng.ways").Tree()
-        for name, wanted in METHODS.items():
-            self.assertEqual(list(inspect.signature(getattr(tree, name)).parameters), wanted, name)
+    def check_methods(self, thing, methods):
+        for name, wanted in methods.items():
+            parameters = inspect.signature(getattr(thing, name)).parameters
+            self.assertEqual(list(parameters), wanted, name)
+            for parameter in parameters.values():
+                self.assertIs(parameter.default, inspect.Parameter.empty, name)
+
+    def test_methods(self):
+        self.check_methods(importlib.import_module("throng.ways").Tree(), TREE_METHODS)
+        self.check_methods(importlib.import_module("throng.keeps").Keeper(NET), KEEPER_METHODS)
 
     def test_kinds_told_by_the_tree(self):
         tree = importlib.import_module("throng.ways").Tree()
@@ -177,3 +209,17 @@ class Interface(unittest.TestCase):
         self.assertEqual(deep_kinds(tree.ways_below(signs="0")), (list, [(tuple, [str, str])]))
         self.assertEqual(deep_kinds(tree.ways_below(signs="1")), (list, []))
         self.assertIsNone(tree.strike_way(beginning="01"))
+
+    def test_kinds_told_by_the_keeper(self):
+        keeper = importlib.import_module("throng.keeps").Keeper(net=NET)
+        self.assertEqual(deep_kinds(keeper.net_now()), NET_KIND)
+        self.assertIsNone(keeper.untie(house="a", door="out"))
+        self.assertEqual(deep_kinds(keeper.told(house="a", door="out")), (list, ENDS_KIND))
+        self.assertEqual(deep_kinds(keeper.picture(house="a", door="out")),
+                         (list, [(tuple, [(tuple, [str, str, str, int]), (tuple, [int, (list, [])])])]))
+        self.assertIsNone(keeper.put_rule(house="a", door="out", number=0, rule=("---", "pass", "---")))
+        self.assertIsNone(keeper.strike_rule(house="a", door="out", number=0))
+        self.assertIsNone(keeper.put_way(house="a", beginning="", door="in"))
+        self.assertIsNone(keeper.strike_way(house="a", beginning=""))
+        self.assertIsNone(keeper.tie(one=("a", "out"), other=("b", "out")))
+        self.assertEqual(keeper.net_now(), NET)

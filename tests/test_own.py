@@ -3,7 +3,9 @@
 import copy
 import unittest
 
-from tests.sets import deep_kinds
+from tests.sets import deep_kinds, open_of
+from throng.asks import can_come
+from throng.backs import net_back, net_picture
 from throng.blends import graph_blend, graph_other, graph_under
 from throng.classes import net_classes
 from throng.errors import ThrongError
@@ -11,9 +13,11 @@ from throng.fields import field_part, field_row, field_span, layout_width
 from throng.graphs import graph_has, graph_least, graph_of, graph_rows, graph_size
 from throng.heaps import heap_apart, heap_has, heap_less, heap_meet, heap_missing, heap_parted, heap_size
 from throng.houses import house_back, house_does, house_shares
+from throng.keeps import Keeper
 from throng.nets import net_checked, net_house, net_open, net_spots, net_tied
 from throng.rows import row_less
 from throng.rules import rule_deed, rule_first, rule_needed, rule_shares, rules_thinned
+from throng.twins import net_parted
 from throng.walks import net_fared, net_walk
 from throng.ways import Tree, way_found, way_rows, ways_thinned
 
@@ -115,6 +119,26 @@ def net_calls():
                     yield net_classes, [copy.deepcopy(net), name, "out", list(heap)]
 
 
+def good_nets():
+    return [net for net in all_nets() if told_by(net_checked, [net]) is True]
+
+
+def all_letter_calls():
+    """As calls, for backs, asks and twins."""
+    for net in good_nets():
+        for name in ("b", "d", "e"):
+            for door in ("in", "out"):
+                yield net_picture, [copy.deepcopy(net), name, door]
+                for heap in ([], ["---"], ["1--", "01-", "1--"]):
+                    yield net_back, [copy.deepcopy(net), name, door, graph_of(heap)]
+                    for goal in (("c", "out", []), ("d", "out", ["--1", "0--"])):
+                        yield can_come, [copy.deepcopy(net), name, door, list(heap), copy.deepcopy(goal)]
+                        yield can_come, [copy.deepcopy(net), name, door, list(heap), copy.deepcopy(goal), "b"]
+    for one in good_nets()[:4]:
+        for other in good_nets():
+            yield net_parted, [copy.deepcopy(one), copy.deepcopy(other)]
+
+
 def told_by(function, given):
     """What is told, or the class of what is refused."""
     try:
@@ -127,6 +151,7 @@ def calls():
     """Every function that takes a list, with arguments of its own each time."""
     yield from later_calls()
     yield from net_calls()
+    yield from all_letter_calls()
     for heap in HEAPS:
         for function in OF_ONE:
             yield function, [list(heap)]
@@ -241,3 +266,64 @@ class Own(unittest.TestCase):
         tree.put_way("1", "c")
         self.assertEqual(told, before)
         self.assertEqual(tree.told_ways(), [("01", "b"), ("1", "c")])
+
+
+class OwnOfAKeeper(unittest.TestCase):
+    """A keeper's net is its own, and so is all that it tells."""
+
+    deeds = [("put_rule", ["b", "in", 0, ("0--", "drop", "---")]),
+             ("put_rule", ["c", "out", 1, ("1--", "pass", "0-1")]), ("put_way", ["c", "1", "out"]),
+             ("put_way", ["b", "0", "out"]), ("strike_rule", ["b", "out", 0]), ("strike_way", ["d", ""]),
+             ("tie", [("c", "out"), ("d", "in")]), ("untie", ["b", "in"]), ("put_way", ["d", "1", "out"]),
+             ("untie", ["c", "out"]), ("strike_rule", ["b", "in", 7])]
+
+    def answers(self, keeper):
+        net = keeper.net_now()
+        told = [(keeper.told(*spot), keeper.picture(*spot)) for spot in open_of(net)]
+        return [net, told]
+
+    def test_what_is_handed_in_stays(self):
+        for net in all_nets():
+            before = copy.deepcopy(net)
+            keeper = told_by(Keeper, [net])
+            self.assertEqual(net, before)
+            if isinstance(keeper, Keeper):
+                for deed, given in self.deeds:
+                    handed = copy.deepcopy(given)
+                    told_by(getattr(keeper, deed), handed)
+                    self.answers(keeper)
+                    self.assertEqual((handed, net), (given, before))
+
+    def test_answers_stay_when_what_was_handed_in_changes(self):
+        for net in good_nets():
+            keeper, other = Keeper(net), Keeper(copy.deepcopy(net))
+            spoil(net)
+            self.assertEqual(self.answers(keeper), self.answers(other))
+            for deed, given in self.deeds:
+                handed = copy.deepcopy(given)
+                self.assertEqual(told_by(getattr(keeper, deed), handed), told_by(getattr(other, deed), given))
+                spoil(handed)
+                self.assertEqual(self.answers(keeper), self.answers(other))
+
+    def test_answers_stay_when_what_was_told_changes(self):
+        for net in good_nets():
+            keeper, other = Keeper(net), Keeper(net)
+            for deed, given in self.deeds:
+                wanted = self.answers(other)
+                for again in range(2):
+                    told = self.answers(keeper)
+                    self.assertEqual(told, wanted)
+                    spoil(told)
+                told_by(getattr(keeper, deed), given)
+                told_by(getattr(other, deed), given)
+
+    def test_what_was_told_stays_when_deeds_are_done(self):
+        for net in good_nets():
+            keeper = Keeper(net)
+            all_told = []
+            for deed, given in self.deeds:
+                told = self.answers(keeper)
+                all_told.append((told, copy.deepcopy(told)))
+                told_by(getattr(keeper, deed), given)
+            for told, before in all_told:
+                self.assertEqual(told, before)

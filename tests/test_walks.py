@@ -4,15 +4,10 @@ import itertools
 import random
 import unittest
 
-from tests.sets import OTHER_SIGNS, OTHER_THINGS, PASS, TO, all_letters, check_refused, counting, deep_kinds, filled
-from tests.sets import passing, plain_walk, ring_of, some_layout, some_net, some_places, some_signs, spread
+from tests.sets import END_KINDS, OTHER_SIGNS, OTHER_THINGS, PASS, TO, all_letters, check_refused, counting
+from tests.sets import deep_kinds, fared, filled, passing, plain_walk, ring_of, some_layout, some_net, some_places
+from tests.sets import some_signs, spread
 from throng.walks import net_fared, net_walk
-
-END_KINDS = {"drop": [str, str, str, int], "lost": [str] * 3, "out": [str] * 4, "ring": [str] * 2}
-
-
-def fared(end):
-    return {"out": end, "ring": ("ring",), "lost": ("lost",), "drop": ("lost",)}[end[0]]
 
 
 class Walks(unittest.TestCase):

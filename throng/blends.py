@@ -1,6 +1,6 @@
 """Graphs blended by a word, the other of a graph, and the graph under an over."""
 
-from throng.graphs import Writer
+from throng.graphs import Writer, graph_of
 
 # By each word the ends of letters that lie in neither graph, in the second
 # alone, in the first alone, in both.
@@ -76,3 +76,17 @@ def led_under(number, nodes, over, writer, known):
             side = node[1] if sign == "0" else node[2]
             known[number] = led_under(side, nodes, over, writer, known)
     return known[number]
+
+
+# Of rows, each told with an over, the letters that lie in the graph once the
+# over is written on them.
+def graph_before(pairs, graph):
+    # Rows with one over are told as one heap, so that there are few graphs to join.
+    heaps = {}
+    for row, over in pairs:
+        heaps.setdefault(over, []).append(row)
+    before = (0, [])
+    for over, heap in heaps.items():
+        some = graph_blend(graph_of(heap), graph_under(graph, over), "common")
+        before = graph_blend(before, some, "join")
+    return before

@@ -1,71 +1,106 @@
 """Classes: all letters of a heap at once, row by row, until they end."""
 
-from throng.fields import layout_width
 from throng.heaps import heap_apart
 from throng.houses import Gate
 from throng.nets import check_spot, line_ends
-from throng.rows import row_written
-from throng.walks import end_by, ring_end
+from throng.rows import row_before, row_written
+from throng.walks import end_by
 
 
 def net_classes(net, house, door, heap):
     check_spot(net, house, door)
-    crowd = Crowd(net)
-    bare = "-" * layout_width(net[0])
-    groups = [Group(row, bare, (house, door), {}) for row in heap_apart(heap)]
-    while groups != []:
-        # The last one is led on first, so that few are under way at once.
-        group = groups.pop()
-        groups.extend(crowd.led_further(group))
-    return crowd.classes
+    return Crowd(net, {}).heap_classes((house, door), heap)
 
 
-# Letters that have come the same way: the row of them as they were laid in, the
-# over that they wear by now, the spot to which they come, and the steps behind
-# them, kept as keys in their order.
-class Group:
-    def __init__(self, row, worn, spot, steps):
-        self.row = row
-        self.worn = worn
-        self.spot = spot
-        self.steps = steps
+# The end of letters on which worn, a row or one letter, was written ahead of it.
+def end_worn(end, worn):
+    return end[:3] + (row_written(worn, end[3]),) if end[0] == "out" else end
 
 
+# What becomes of rows of letters in one net. A step is a tuple (house, door,
+# row) of letters that come in there; its classes are those of its row, laid in
+# there.
 class Crowd:
-    def __init__(self, net):
+    # Gates are kept by their spots, and may come from a crowd of another net in
+    # which these houses are the same.
+    def __init__(self, net, gates):
         self.layout = net[0]
         self.houses = dict(net[1])
         self.ends = line_ends(net)
-        self.gates = {}
-        self.classes = []
+        self.gates = gates
+        self.shares = {}
+        self.known = {}
+
+    def heap_classes(self, spot, heap):
+        classes = []
+        for row in heap_apart(heap):
+            classes.extend(self.row_classes(spot, row))
+        return classes
+
+    # Classes of a step are put together of those of the steps that follow, so
+    # these are reckoned first; and each step once, for many come to the same one.
+    def row_classes(self, spot, row):
+        first = spot + (row,)
+        waiting = [first]
+        while waiting != []:
+            step = waiting[-1]
+            if step in self.known:
+                waiting.pop()
+            elif step not in self.shares:
+                self.shares[step] = self.shares_at(step)
+                waiting.extend([after for part, what, after in self.shares[step] if after is not None])
+            elif self.is_in_ring(step):
+                self.put_ring(step)
+            else:
+                self.known[step] = self.classes_at(step)
+        return self.known[first]
 
     def gate_at(self, spot):
         if spot not in self.gates:
             self.gates[spot] = Gate(self.layout, self.houses[spot[0]], spot[1])
         return self.gates[spot]
 
-    # The groups into which one falls by its next step, but for those that end.
-    def led_further(self, group):
-        house = group.spot[0]
-        door = group.spot[1]
-        step = (house, door, row_written(group.row, group.worn))
-        # A group tells ever more places. Where it tells no more than at an
-        # earlier step, nothing was parted or written elsewhere since: so if the
-        # signs are the same, each of its letters is. And in a ring it can't tell
-        # more for ever, so this is met in the end.
-        if step in group.steps:
-            self.put_class(group.row, ring_end(list(group.steps), step), group.steps)
-            return []
-        steps = dict(group.steps)
-        steps[step] = True
-        groups = []
-        for part, what in self.gate_at(group.spot).parts_of(group.row, group.worn):
-            end = end_by(what, house, door, self.ends)
-            if end is None:
-                groups.append(Group(part, what[2], self.ends[(house, what[1])], steps))
-            else:
-                self.put_class(part, end, steps)
-        return groups
+    # Tuples (part, what, after): a part of the step's row, what the house does
+    # with it, and the step that follows, or None where it ends there.
+    def shares_at(self, step):
+        shares = []
+        for part, what in self.gate_at(step[:2]).parts_of(step[2]):
+            spot = self.ends.get((step[0], what[1])) if what[0] == "sent" else None
+            after = None if spot is None else spot + (row_written(part, what[2]),)
+            shares.append((part, what, after))
+        return shares
 
-    def put_class(self, row, end, steps):
-        self.classes.append((row, end, sorted(set([step[0] for step in steps]))))
+    # Rows tell ever more places from step to step. So a step that follows upon
+    # itself was not parted on the way: steps of a ring have one share each.
+    def step_after(self, step):
+        return self.shares[step][0][2]
+
+    # What follows is known once a step is come back to, but in a ring.
+    def is_in_ring(self, step):
+        after = self.step_after(step)
+        return after is not None and after not in self.known
+
+    def put_ring(self, step):
+        ring = [step]
+        while self.step_after(ring[-1]) != step:
+            ring.append(self.step_after(ring[-1]))
+        names = sorted(set([past[0] for past in ring]))
+        for past in ring:
+            self.known[past] = [(past[2], ("ring", names[0]), names)]
+
+    def classes_at(self, step):
+        house = step[0]
+        classes = []
+        for part, what, after in self.shares[step]:
+            if after is None:
+                classes.append((part, end_by(what, house, step[1], self.ends), [house]))
+            else:
+                classes.extend([class_before(one, part, what[2], house) for one in self.known[after]])
+        return classes
+
+
+# The class of those letters of a row that are in a later class, once the house
+# has sent them out with the over written on them.
+def class_before(later, row, over, house):
+    met = later[2] if house in later[2] else sorted(later[2] + [house])
+    return (row_before(row, over, later[0]), end_worn(later[1], over), met)

@@ -1,10 +1,9 @@
 """Houses: rules at each door, and behind them ways by the signs of the field "to"."""
 
-from throng.blends import graph_blend, graph_under
+from throng.blends import graph_before
 from throng.errors import NoDoor
 from throng.fields import field_part, field_span, layout_width
 from throng.forks import fork_of, fork_parts
-from throng.graphs import graph_of
 from throng.rows import row_written
 from throng.rules import is_dropped, rule_first
 from throng.ways import door_at, longest_first, way_found, way_row
@@ -31,20 +30,12 @@ def sent_by(door, thing):
 
 
 def house_shares(layout, house, door, row):
-    return Gate(layout, house, door).parts_of(row, "-" * len(row))
+    return Gate(layout, house, door).parts_of(row)
 
 
 def house_back(layout, house, door, out, graph):
-    # Rows with one over are told as one heap, so that there are few graphs to join.
-    heaps = {}
-    for part, what in house_shares(layout, house, door, "-" * layout_width(layout)):
-        if what[0] == "sent" and what[1] == out:
-            heaps.setdefault(what[2], []).append(part)
-    back = (0, [])
-    for over, heap in heaps.items():
-        sent = graph_blend(graph_of(heap), graph_under(graph, over), "common")
-        back = graph_blend(back, sent, "join")
-    return back
+    shares = house_shares(layout, house, door, "-" * layout_width(layout))
+    return graph_before([(part, what[2]) for part, what in shares if what[:2] == ("sent", out)], graph)
 
 
 # The row of the letters whose signs at the field "to" have the way's beginning.
@@ -63,17 +54,15 @@ class Gate:
         self.rules_fork = fork_of([rule[0] for rule in self.rules], every)
         self.ways_fork = fork_of([to_row(layout, way) for way in self.ways], every)
 
-    # The row is of letters as they once were; they come in with the over worn
-    # written on them, and what is told has all that is written on them by then.
-    def parts_of(self, row, worn):
+    def parts_of(self, row):
         parts = []
-        for part, number in fork_parts(self.rules_fork, row, worn):
+        for part, number in fork_parts(self.rules_fork, row, "-" * len(row)):
             if is_dropped(self.rules, number):
                 parts.append((part, ("drop", number)))
             else:
-                parts.extend(self.sent_parts(part, row_written(worn, self.rules[number][2])))
+                parts.extend(self.sent_parts(part, self.rules[number][2]))
         return parts
 
-    def sent_parts(self, row, worn):
-        parts = fork_parts(self.ways_fork, row, worn)
-        return [(part, sent_by(door_at(self.ways, number), worn)) for part, number in parts]
+    def sent_parts(self, row, over):
+        parts = fork_parts(self.ways_fork, row, over)
+        return [(part, sent_by(door_at(self.ways, number), over)) for part, number in parts]

@@ -97,10 +97,29 @@ def house_named(net, name):
     raise NoHouse(f"no house {name!r}")
 
 
-# The house is told as a copy, for the lists in it are the asker's own.
-def net_house(net, name):
-    house = house_named(net, name)
+# What is told or kept has lists of its own, down to those of the rules.
+def net_copied(net):
+    return (list(net[0]), [(name, house_copied(house)) for name, house in net[1]], list(net[2]))
+
+
+def house_copied(house):
     return ([(door, list(rules)) for door, rules in house[0]], list(house[1]))
+
+
+def net_house(net, name):
+    return house_copied(house_named(net, name))
+
+
+# The net with another house of that name, or with other rules at a door, and all
+# else as it is.
+def net_with_house(net, name, house):
+    return (net[0], [(its, house if its == name else other) for its, other in net[1]], net[2])
+
+
+def net_with_rules(net, name, door, rules):
+    house = house_named(net, name)
+    gates = [(its, rules if its == door else others) for its, others in house[0]]
+    return net_with_house(net, name, (gates, house[1]))
 
 
 def net_spots(net):

@@ -53,12 +53,21 @@ def row_least(row):
     return row.replace("-", "0")
 
 
-def row_most(row):
-    return row.replace("-", "1")
+# The least letter of a row and the one with 1 at each -. Two overs part a letter
+# at a place where they tell two signs, or where one tells a sign that the letter
+# has not: so where they part some letter of the row, they part one of these.
+def row_edges(row):
+    return (row_least(row), row.replace("-", "1"))
 
 
 def row_written(row, over):
     return "".join([mine if its == "-" else its for mine, its in zip(row, over)])
+
+
+# Of the letters of a row those that lie in another one once the over is written
+# on them: that one is within what comes of the row by the over.
+def row_before(row, over, written):
+    return "".join([its if sign == "-" else mine for mine, sign, its in zip(row, over, written)])
 
 
 def row_less(one, other):

@@ -2,7 +2,7 @@
 
 from throng.errors import NoRule
 from throng.forks import heap_shares
-from throng.rows import row_holds, row_least, row_most, row_written
+from throng.rows import row_edges, row_holds, row_written
 
 
 def rule_first(rules, letter):
@@ -30,10 +30,18 @@ def rule_shares(rules, row):
     return heap_shares([rule[0] for rule in rules], row)
 
 
-def rule_needed(rules, number, width):
-    if number < 0 or number >= len(rules):
+def check_number(number, count):
+    if number < 0 or number >= count:
         raise NoRule(f"no rule {number!r}")
-    others = rules[:number] + rules[number + 1:]
+
+
+def rules_without(rules, number):
+    return rules[:number] + rules[number + 1:]
+
+
+def rule_needed(rules, number, width):
+    check_number(number, len(rules))
+    others = rules_without(rules, number)
     for part, first in rule_shares(others, rules[number][0]):
         # Where a rule ahead counts, this one does nothing.
         if first >= number:
@@ -43,11 +51,8 @@ def rule_needed(rules, number, width):
     return None
 
 
-# Two overs part a letter at a place where they tell two signs, or where one
-# tells a sign that the letter has not. So where they part some letter of a row,
-# they part its least letter or the one with 1 at each -.
 def deeds_parted(row, one, mine, other, its):
-    for letter in (row_least(row), row_most(row)):
+    for letter in row_edges(row):
         if deed_by(one, mine, letter) != deed_by(other, its, letter):
             return letter
     return None

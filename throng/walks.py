@@ -44,7 +44,10 @@ def ring_end(trail, step):
 
 
 def net_fared(net, house, door, letter):
-    end = net_walk(net, house, door, letter)[1]
+    return fared_by(net_walk(net, house, door, letter)[1])
+
+
+def fared_by(end):
     if end[0] == "out":
         return end
     return ("ring",) if end[0] == "ring" else ("lost",)

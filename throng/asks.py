@@ -1,0 +1,20 @@
+"""Whether a letter of a heap, laid in at a spot, can come to a goal."""
+
+from throng.backs import graph_back
+from throng.classes import net_classes
+from throng.fields import layout_width
+from throng.graphs import graph_least, graph_of
+from throng.nets import check_spot, house_named
+
+
+def can_come(net, house, door, heap, goal, beside=None):
+    check_spot(net, house, door)
+    check_spot(net, goal[0], goal[1])
+    if beside is not None:
+        # Refuses a house that the net has not.
+        house_named(net, beside)
+    classes = net_classes(net, house, door, heap)
+    some = [one for one in classes if beside not in one[2]]
+    come = graph_back(some, goal[0], goal[1], graph_of(goal[2]))
+    letter = graph_least(come, layout_width(net[0]))
+    return ("no", classes) if letter is None else ("yes", letter)
