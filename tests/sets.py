@@ -1,5 +1,6 @@
 """What the tests hold the program against: letters one by one, told without the program."""
 
+import copy
 import itertools
 import random
 
@@ -203,6 +204,15 @@ def fared(end):
     return {"out": end, "ring": ("ring",), "lost": ("lost",), "drop": ("lost",)}[end[0]]
 
 
+def plain_fare(net, house, door, letter):
+    return fared(plain_walk(net, house, door, letter)[1])
+
+
+def plain_fares(net, letters):
+    """How each of these letters fares, laid in at each open spot."""
+    return {spot + (letter,): plain_fare(net, *spot, letter) for spot in open_of(net) for letter in letters}
+
+
 def spots_of(net):
     return sorted((name, door) for name, house in net[1] for door, rules in house[0])
 
@@ -220,13 +230,15 @@ def width_of(net):
     return sum(size for name, size in net[0])
 
 
+def some_letters(chance, places, width):
+    """For each choice at these places a letter that has it."""
+    return [filled(chance, row) for row in spread(all_letters(len(places)), places, width)]
+
+
 def plain_walks(chance, net, places, house, door):
     """For each choice at these places a letter that has it, with its trail and its end."""
-    walks = {}
-    for choice, row in zip(all_letters(len(places)), spread(all_letters(len(places)), places, width_of(net))):
-        letter = filled(chance, row)
-        walks[choice] = (letter,) + plain_walk(net, house, door, letter)
-    return walks
+    return {narrow(letter, places): (letter,) + plain_walk(net, house, door, letter)
+            for letter in some_letters(chance, places, width_of(net))}
 
 
 def plain_picture(walks, places):
@@ -364,3 +376,99 @@ def counting(places, count, rest=0):
     houses[0][1][0][0] = ("in", rules)
     layout = [("count", places), ("to", 1), ("rest", rest)]
     return (layout if rest else layout[:2], houses, lines_round(names))
+
+
+def with_rules(net, spot, rules):
+    net = copy.deepcopy(net)
+    gates = dict(net[1])[spot[0]][0]
+    gates[[door for door, its in gates].index(spot[1])] = (spot[1], rules)
+    return net
+
+
+def with_ways(net, name, ways):
+    return (net[0], [(its, (house[0], ways) if its == name else house) for its, house in net[1]], net[2])
+
+
+def other_rules(chance, net, places):
+    """The net with a rule struck, put in, changed or moved."""
+    spots = spots_of(net)
+    spot = chance.choice(spots)
+    rules = list(rules_of(net, *spot))
+    number = chance.randint(0, len(rules))
+    overs = sorted({place for each in spots for rule in rules_of(net, *each)
+                    for place, sign in enumerate(rule[2]) if sign != "-"})
+    rule = (some_signs(chance, width_of(net), places, "01-"), chance.choice(["pass", "drop"]),
+            some_signs(chance, width_of(net), overs, "01-"))
+    deed = chance.choice(["put", "strike", "change", "move"])
+    if deed == "put" or not rules:
+        rules.insert(number, rule)
+    elif deed == "strike":
+        rules.pop(number - 1)
+    elif deed == "change":
+        rules[number - 1] = rule
+    else:
+        rules.append(rules.pop(number - 1))
+    return with_rules(net, spot, rules)
+
+
+def other_ways(chance, net, places):
+    name, house = chance.choice([pair for pair in net[1] if pair[1][0]])
+    ways = some_house_ways(chance, net[0], places, [door for door, rules in house[0]])
+    return with_ways(net, name, ways)
+
+
+def without_rule(net, spot, number):
+    rules = rules_of(net, *spot)
+    return with_rules(net, spot, rules[:number] + rules[number + 1:])
+
+
+def drawn_net(chance, width, count=None, most=4):
+    """A net with a spot at least, and the places that it tells none but: all, or so many."""
+    layout = some_layout(chance, width)
+    places = range(width) if count is None else some_places(chance, layout, count)
+    net = some_net(chance, layout, places, most)
+    while not spots_of(net):
+        net = some_net(chance, layout, places, most)
+    return net, places
+
+
+def has_come(end, goal):
+    """Whether a letter that ends so comes to the goal."""
+    return end[:3] == ("out",) + goal[:2] and any(lies_in(end[3], row) for row in goal[2])
+
+
+def fares_against(net, demand, letter):
+    """Whether the letter, laid in at the demand's spot, fares against it."""
+    word, house, door, heap, goal, beside = demand
+    trail, end = plain_walk(net, house, door, letter)
+    if word == "calm":
+        return end[0] == "ring"
+    come = has_come(end, goal)
+    return {"all": not come, "none": come, "past": come and beside not in [step[0] for step in trail]}[word]
+
+
+def is_broken(net, demand, letters):
+    """Whether one of these letters is of the demand's heap and fares against it."""
+    return any(fares_against(net, demand, letter) for letter in letters
+               if any(lies_in(letter, row) for row in demand[3]))
+
+
+def some_rows(chance, width, places, most):
+    """Up to so many rows, perhaps the one of all letters."""
+    rows = [some_signs(chance, width, places, chance.choice(["01-", "01---"]))
+            for number in range(chance.randint(0, most))]
+    return rows if chance.random() < 0.8 else ["-" * width]
+
+
+def some_demand(chance, net, places, word):
+    """A demand by that word, with None where the word doesn't look, or else what has no sense there."""
+    width = width_of(net)
+    spots = spots_of(net)
+    goal = chance.choice(chance.choice([spots, open_of(net) or spots])) + (some_rows(chance, width, places, 3),)
+    spot = chance.choice([chance.choice(spots), chance.choice(spots), goal[:2]])
+    beside = chance.choice([chance.choice(net[1])[0], spot[0]])
+    if word == "calm":
+        goal = chance.choice([None, ("nohouse", "nodoor", None)])
+    if word != "past":
+        beside = chance.choice([None, "nohouse", spot[0]])
+    return (word,) + spot + (some_rows(chance, width, places, 3), goal, beside)

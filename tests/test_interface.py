@@ -51,6 +51,10 @@ ARGUMENTS = {
     "throng.asks": {"can_come": ["net", "house", "door", "heap", "goal", "beside"]},
     "throng.keeps": {"Keeper": ["net"]},
     "throng.twins": {"net_parted": ["one", "other"]},
+    "throng.thins": {"rule_parts": ["net", "house", "door", "number"], "net_thinned": ["net"]},
+    "throng.kinds": {"net_kinds": ["net"]},
+    "throng.demands": {"demand_broken": ["net", "demand"]},
+    "throng.turns": {"net_mixed": ["one", "other", "names"], "turn_order": ["one", "other", "demands"]},
 }
 DEFAULTS = {("can_come", "beside"): None}
 TREE_METHODS = {
@@ -70,6 +74,10 @@ RULES = [("0-", "pass", "-1"), ("-1", "drop", "--")]
 WAYS = [("0", "in"), ("01", "out")]
 HOUSE = ([("in", [("0--", "pass", "--1"), ("11-", "drop", "---")]), ("out", [])], [("0", "out")])
 NET = (LAYOUT, [("a", HOUSE), ("b", HOUSE)], [(("a", "out"), ("b", "out"))])
+# Nets of one house without lines, with a needless rule and without it.
+OPEN_NET = (LAYOUT, [("a", HOUSE)], [])
+NEEDED_NET = (LAYOUT, [("a", ([("in", HOUSE[0][0][1][:1]), ("out", [])], HOUSE[1]))], [])
+NEEDED_KIND = deep_kinds(NEEDED_NET)
 SPOT_KIND = (tuple, [str, str])
 GATES_KIND = (list, [(tuple, [str, (list, [(tuple, [str] * 3)] * 2)]), (tuple, [str, (list, [])])])
 HOUSE_KIND = (tuple, [GATES_KIND, (list, [(tuple, [str] * 2)])])
@@ -158,6 +166,19 @@ KINDS = [
     ("twins", "net_parted", {"one": NET, "other": NET}, None),
     ("twins", "net_parted", {"one": (LAYOUT, [("a", HOUSE)], []), "other": (LAYOUT, [("a", (HOUSE[0], []))], [])},
      (tuple, [str] * 3)),
+    ("thins", "rule_parts", {"net": NET, **IN_A, "number": 1}, None),
+    ("thins", "rule_parts", {"net": OPEN_NET, **IN_A, "number": 0}, (tuple, [str] * 3)),
+    ("thins", "net_thinned", {"net": NEEDED_NET}, NEEDED_KIND),
+    ("kinds", "net_kinds", {"net": NET}, [(tuple, [int, (list, [(tuple, [int] * 3)] * 2)])]),
+    ("kinds", "net_kinds", {"net": (LAYOUT, [], [])}, [(tuple, [int, (list, [])])]),
+    ("demands", "demand_broken", {"net": NET, "demand": ("calm", "a", "in", ["---"], None, None)}, None),
+    ("demands", "demand_broken", {"net": NET, "demand": ("all", "a", "in", ["---"], ("b", "in", []), None)}, str),
+    ("turns", "net_mixed", {"one": NET, "other": NET, "names": ["a"]}, NET_KIND),
+    ("turns", "turn_order", {"one": NET, "other": NET, "demands": []}, (tuple, [str, (list, [])])),
+    ("turns", "turn_order", {"one": OPEN_NET, "other": NEEDED_NET, "demands": []}, (tuple, [str, (list, [str])])),
+    ("turns", "turn_order",
+     {"one": OPEN_NET, "other": NEEDED_NET, "demands": [("all", "a", "in", ["111"], ("a", "out", []), None)]},
+     (tuple, [str, (list, [(tuple, [(list, []), str, int, str])])])),
 ]
 
 

@@ -8,15 +8,19 @@ from throng.asks import can_come
 from throng.backs import net_back, net_picture
 from throng.blends import graph_blend, graph_other, graph_under
 from throng.classes import net_classes
+from throng.demands import demand_broken
 from throng.errors import ThrongError
 from throng.fields import field_part, field_row, field_span, layout_width
 from throng.graphs import graph_has, graph_least, graph_of, graph_rows, graph_size
 from throng.heaps import heap_apart, heap_has, heap_less, heap_meet, heap_missing, heap_parted, heap_size
 from throng.houses import house_back, house_does, house_shares
 from throng.keeps import Keeper
+from throng.kinds import net_kinds
 from throng.nets import net_checked, net_house, net_open, net_spots, net_tied
 from throng.rows import row_less
 from throng.rules import rule_deed, rule_first, rule_needed, rule_shares, rules_thinned
+from throng.thins import net_thinned, rule_parts
+from throng.turns import net_mixed, turn_order
 from throng.twins import net_parted
 from throng.walks import net_fared, net_walk
 from throng.ways import Tree, way_found, way_rows, ways_thinned
@@ -139,6 +143,42 @@ def all_letter_calls():
             yield net_parted, [copy.deepcopy(one), copy.deepcopy(other)]
 
 
+DEMANDS = [
+    ("all", "b", "in", ["---"], ("c", "out", ["--1", "0--"]), None), ("none", "d", "in", [], ("d", "in", ["---"]), "b"),
+    ("past", "c", "in", ["1--", "01-"], ("c", "out", ["---"]), "c"), ("calm", "d", "in", ["---", "0--"], None, None),
+    ("calm", "e", "in", ["---"], None, None), ("never", "b", "in", ["---"], ("c", "out", ["---"]), None),
+]
+
+
+def changed_nets(net):
+    """The net, and two that it can be changed into."""
+    yield net
+    houses = [(name, (house[0][:1] + [(door, rules + RULES[2]) for door, rules in house[0][1:]], house[1]))
+              for name, house in net[1]]
+    yield (net[0], houses, net[2])
+    yield (net[0], [(name, (house[0], [])) for name, house in net[1]], net[2])
+
+
+def last_calls():
+    """As calls, for thins, kinds, demands and turns."""
+    for net in good_nets():
+        yield net_thinned, [copy.deepcopy(net)]
+        yield net_kinds, [copy.deepcopy(net)]
+        for name in ("b", "c", "d", "e"):
+            for number in (-1, 0, 1, 9):
+                yield rule_parts, [copy.deepcopy(net), name, "in", number]
+                yield rule_parts, [copy.deepcopy(net), name, "out", number]
+        for demand in DEMANDS:
+            yield demand_broken, [copy.deepcopy(net), copy.deepcopy(demand)]
+        for other in changed_nets(net):
+            for names in ([], ["b"], ["d", "a", "d"], ["a", "b", "c", "d"], ["e"]):
+                yield net_mixed, [copy.deepcopy(net), copy.deepcopy(other), list(names)]
+            for demands in ([], DEMANDS[:1], DEMANDS[1:3], DEMANDS[3:4], DEMANDS[:4]):
+                yield turn_order, [copy.deepcopy(net), copy.deepcopy(other), copy.deepcopy(demands)]
+    for other in good_nets():
+        yield net_mixed, [copy.deepcopy(good_nets()[0]), other, ["b"]]
+
+
 def told_by(function, given):
     """What is told, or the class of what is refused."""
     try:
@@ -152,6 +192,7 @@ def calls():
     yield from later_calls()
     yield from net_calls()
     yield from all_letter_calls()
+    yield from last_calls()
     for heap in HEAPS:
         for function in OF_ONE:
             yield function, [list(heap)]

@@ -4,36 +4,21 @@ import copy
 import random
 import unittest
 
-from tests.sets import PASS, TO, all_letters, check_refused, counting, fared, filled, lines_round, open_of, passing
-from tests.sets import places_to, plain_walk, ring_of, rules_of, some_house, some_house_ways, some_layout, some_net
-from tests.sets import some_places, some_signs, spots_of, spread, width_of
+from tests.sets import PASS, TO, check_refused, counting, drawn_net, lines_round, open_of, other_rules, other_ways
+from tests.sets import passing, places_to, plain_fare, ring_of, some_house, some_layout, some_letters, some_net
+from tests.sets import spread, width_of, with_rules, with_ways
 from throng.rules import rules_thinned
 from throng.twins import net_parted
 from throng.ways import ways_thinned
 
 
-def with_rules(net, spot, rules):
-    net = copy.deepcopy(net)
-    gates = dict(net[1])[spot[0]][0]
-    gates[[door for door, its in gates].index(spot[1])] = (spot[1], rules)
-    return net
-
-
-def with_ways(net, name, ways):
-    return (net[0], [(its, (house[0], ways) if its == name else house) for its, house in net[1]], net[2])
-
-
 class Twins(unittest.TestCase):
-    def fares(self, net, spot, letter):
-        return fared(plain_walk(net, *spot, letter)[1])
-
     def check(self, one, other, places):
         """The nets tell together none but these places; told is whether they are alike."""
-        chance = random.Random(36)
-        rows = spread(all_letters(len(places)), places, width_of(one))
+        letters = some_letters(random.Random(36), places, width_of(one))
         told = net_parted(one, other)
-        laid = [(spot, filled(chance, row)) for spot in open_of(one) for row in rows]
-        if all(self.fares(one, *given) == self.fares(other, *given) for given in laid):
+        laid = [spot + (letter,) for spot in open_of(one) for letter in letters]
+        if all(plain_fare(one, *given) == plain_fare(other, *given) for given in laid):
             self.assertIsNone(told, (one, other))
             return True
         self.assertIs(type(told), tuple)
@@ -41,7 +26,7 @@ class Twins(unittest.TestCase):
         house, door, letter = told
         self.assertIn((house, door), open_of(one))
         self.assertEqual((len(letter), set(letter) - set("01")), (width_of(one), set()))
-        self.assertNotEqual(self.fares(one, (house, door), letter), self.fares(other, (house, door), letter))
+        self.assertNotEqual(plain_fare(one, *told), plain_fare(other, *told))
         return False
 
     def check_both(self, one, other, places):
@@ -49,34 +34,6 @@ class Twins(unittest.TestCase):
         self.assertEqual(self.check(other, one, places), alike)
         self.assertIsNone(net_parted(one, copy.deepcopy(one)))
         return alike
-
-
-def other_rules(chance, net, places):
-    """The net with a rule struck, put in, changed or moved."""
-    spots = spots_of(net)
-    spot = chance.choice(spots)
-    rules = list(rules_of(net, *spot))
-    number = chance.randint(0, len(rules))
-    overs = sorted({place for each in spots for rule in rules_of(net, *each)
-                    for place, sign in enumerate(rule[2]) if sign != "-"})
-    rule = (some_signs(chance, width_of(net), places, "01-"), chance.choice(["pass", "drop"]),
-            some_signs(chance, width_of(net), overs, "01-"))
-    deed = chance.choice(["put", "strike", "change", "move"])
-    if deed == "put" or not rules:
-        rules.insert(number, rule)
-    elif deed == "strike":
-        rules.pop(number - 1)
-    elif deed == "change":
-        rules[number - 1] = rule
-    else:
-        rules.append(rules.pop(number - 1))
-    return with_rules(net, spot, rules)
-
-
-def other_ways(chance, net, places):
-    name, house = chance.choice([pair for pair in net[1] if pair[1][0]])
-    ways = some_house_ways(chance, net[0], places, [door for door, rules in house[0]])
-    return with_ways(net, name, ways)
 
 
 def other_lines(chance, net, places):
@@ -108,20 +65,12 @@ def turned(chance, net, places):
 
 
 class SomeNets(Twins):
-    def drawn(self, chance, width, places=None):
-        layout = some_layout(chance, width)
-        places = range(width) if places is None else some_places(chance, layout, places)
-        net = some_net(chance, layout, places, 4)
-        while not spots_of(net):
-            net = some_net(chance, layout, places, 4)
-        return net, places
-
     def test_changed_in_one_place(self):
         alike = []
         for width in range(1, 7):
             chance = random.Random(width)
             for number in range(50):
-                net, places = self.drawn(chance, width)
+                net, places = drawn_net(chance, width)
                 for change in (other_rules, other_ways, other_lines):
                     alike.append(self.check_both(net, change(chance, net, places), places))
         self.assertGreater(alike.count(True), 150)
@@ -131,7 +80,7 @@ class SomeNets(Twins):
         for width in range(1, 7):
             chance = random.Random(width)
             for number in range(20):
-                net, places = self.drawn(chance, width)
+                net, places = drawn_net(chance, width)
                 for change in (thinner, turned):
                     self.assertTrue(self.check_both(net, change(chance, net, places), places))
 
@@ -156,7 +105,7 @@ class SomeNets(Twins):
         alike = []
         for width in (7, 13, 30, 47, 48):
             for count in (2, 4, 6, 6):
-                net, places = self.drawn(chance, width, count)
+                net, places = drawn_net(chance, width, count)
                 for change in (other_rules, other_ways, other_lines, thinner, turned):
                     alike.append(self.check_both(net, change(chance, net, places), places))
         self.assertIn(True, alike)

@@ -14,7 +14,13 @@ def can_come(net, house, door, heap, goal, beside=None):
         # Refuses a house that the net has not.
         house_named(net, beside)
     classes = net_classes(net, house, door, heap)
-    some = [one for one in classes if beside not in one[2]]
-    come = graph_back(some, goal[0], goal[1], graph_of(goal[2]))
+    come = graph_come(classes, goal[:2], graph_of(goal[2]), beside)
     letter = graph_least(come, layout_width(net[0]))
     return ("no", classes) if letter is None else ("yes", letter)
+
+
+# Of classes the letters that come out at the spot as letters of the graph, and
+# don't come to the house beside (None: no house beside).
+def graph_come(classes, spot, graph, beside):
+    some = [one for one in classes if beside not in one[2]]
+    return graph_back(some, spot[0], spot[1], graph)

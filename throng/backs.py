@@ -26,7 +26,10 @@ def net_picture(net, house, door):
 def classes_picture(classes):
     heaps = {}
     for row, end, met in classes:
-        # With its over, an end would tell letters apart that come out at one spot.
-        shape = end[:3] if end[0] == "out" else end
-        heaps.setdefault(shape, []).append(row)
+        heaps.setdefault(end_shape(end), []).append(row)
     return [(end, graph_of(heaps[end])) for end in sorted(heaps)]
+
+
+# With its over, an end would tell letters apart that come out at one spot.
+def end_shape(end):
+    return end[:3] if end[0] == "out" else end

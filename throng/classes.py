@@ -22,12 +22,14 @@ def end_worn(end, worn):
 # there.
 class Crowd:
     # Gates are kept by their spots, and may come from a crowd of another net in
-    # which these houses are the same.
-    def __init__(self, net, gates):
+    # which these houses are the same. By rules, letters meet the rules that count
+    # for them, as tuples (house, door, number), in the place of houses.
+    def __init__(self, net, gates, by_rules=False):
         self.layout = net[0]
         self.houses = dict(net[1])
         self.ends = line_ends(net)
         self.gates = gates
+        self.by_rules = by_rules
         self.shares = {}
         self.known = {}
 
@@ -48,7 +50,7 @@ class Crowd:
                 waiting.pop()
             elif step not in self.shares:
                 self.shares[step] = self.shares_at(step)
-                waiting.extend([after for part, what, after in self.shares[step] if after is not None])
+                waiting.extend([share[4] for share in self.shares[step] if share[4] is not None])
             elif self.is_in_ring(step):
                 self.put_ring(step)
             else:
@@ -60,20 +62,28 @@ class Crowd:
             self.gates[spot] = Gate(self.layout, self.houses[spot[0]], spot[1])
         return self.gates[spot]
 
-    # Tuples (part, what, after): a part of the step's row, what the house does
-    # with it, and the step that follows, or None where it ends there.
+    # Tuples (part, name, end, over, after): a part of the step's row, what its
+    # letters meet there, and their end, or, where that is None, the over that is
+    # written on them and the step that follows.
     def shares_at(self, step):
         shares = []
-        for part, what in self.gate_at(step[:2]).parts_of(step[2]):
-            spot = self.ends.get((step[0], what[1])) if what[0] == "sent" else None
-            after = None if spot is None else spot + (row_written(part, what[2]),)
-            shares.append((part, what, after))
+        for part, number, what in self.gate_at(step[:2]).ruled_parts(step[2]):
+            name = self.met_by(step, number)
+            end = end_by(what, step[0], step[1], self.ends)
+            if end is None:
+                after = self.ends[(step[0], what[1])] + (row_written(part, what[2]),)
+                shares.append((part, name, None, what[2], after))
+            else:
+                shares.append((part, name, end, None, None))
         return shares
+
+    def met_by(self, step, number):
+        return step[:2] + (number,) if self.by_rules else step[0]
 
     # Rows tell ever more places from step to step. So a step that follows upon
     # itself was not parted on the way: steps of a ring have one share each.
     def step_after(self, step):
-        return self.shares[step][0][2]
+        return self.shares[step][0][4]
 
     # What follows is known once a step is come back to, but in a ring.
     def is_in_ring(self, step):
@@ -84,23 +94,22 @@ class Crowd:
         ring = [step]
         while self.step_after(ring[-1]) != step:
             ring.append(self.step_after(ring[-1]))
-        names = sorted(set([past[0] for past in ring]))
+        names = sorted(set([self.shares[past][0][1] for past in ring]))
         for past in ring:
             self.known[past] = [(past[2], ("ring", names[0]), names)]
 
     def classes_at(self, step):
-        house = step[0]
         classes = []
-        for part, what, after in self.shares[step]:
+        for part, name, end, over, after in self.shares[step]:
             if after is None:
-                classes.append((part, end_by(what, house, step[1], self.ends), [house]))
+                classes.append((part, end, [name]))
             else:
-                classes.extend([class_before(one, part, what[2], house) for one in self.known[after]])
+                classes.extend([class_before(one, part, over, name) for one in self.known[after]])
         return classes
 
 
-# The class of those letters of a row that are in a later class, once the house
-# has sent them out with the over written on them.
-def class_before(later, row, over, house):
-    met = later[2] if house in later[2] else sorted(later[2] + [house])
+# The class of those letters of a row that are in a later class once the over is
+# written on them; they have met the name ahead of it.
+def class_before(later, row, over, name):
+    met = later[2] if name in later[2] else sorted(later[2] + [name])
     return (row_before(row, over, later[0]), end_worn(later[1], over), met)

@@ -55,14 +55,19 @@ class Gate:
         self.ways_fork = fork_of([to_row(layout, way) for way in self.ways], every)
 
     def parts_of(self, row):
+        return [(part, what) for part, number, what in self.ruled_parts(row)]
+
+    # Each part is told with the number of the rule that counts for its letters.
+    def ruled_parts(self, row):
         parts = []
         for part, number in fork_parts(self.rules_fork, row, "-" * len(row)):
-            if is_dropped(self.rules, number):
-                parts.append((part, ("drop", number)))
-            else:
-                parts.extend(self.sent_parts(part, self.rules[number][2]))
+            parts.extend(self.done_parts(part, number))
         return parts
 
-    def sent_parts(self, row, over):
+    # What is done with a row for whose letters that rule counts.
+    def done_parts(self, row, number):
+        if is_dropped(self.rules, number):
+            return [(row, number, ("drop", number))]
+        over = self.rules[number][2]
         parts = fork_parts(self.ways_fork, row, over)
-        return [(part, sent_by(door_at(self.ways, number), over)) for part, number in parts]
+        return [(part, number, sent_by(door_at(self.ways, its), over)) for part, its in parts]
