@@ -190,6 +190,15 @@ class ByHand(Thins):
         self.check((TO, [("a", house)], []), {("a", "in"): [2]})
         self.assertIsNotNone(rule_parts((TO, [("a", house)], []), "a", "in", 0))
 
+    def test_letters_parted_by_a_struck_rule(self):
+        """Without the first rule its letters go by two others, as needful as before; then the next house is looked at."""
+        first = ([("in", [("0-", "pass", "--"), ("-0", "pass", "-0"), ("-1", "pass", "-1")]), ("out", [])],
+                 [("", "out")])
+        second = ([("in", [("0-", "pass", "--")] + PASS), ("out", [])], [("", "out")])
+        for one, other in (("a", "b"), ("b", "a")):
+            net = (TO, [(one, first), (other, second)], [((one, "out"), (other, "in"))])
+            self.check(net, {(one, "in"): [1, 2], (other, "in"): [1]})
+
     def test_needless_once_another_house_is_thinned(self):
         """Whichever house is looked at first, no rule is left that has become needless."""
         for one, other in (("a", "b"), ("b", "a")):

@@ -20,12 +20,16 @@ def check_changeable(one, other):
         raise Unlike("the layouts are not equal")
     if one[2] != other[2]:
         raise Unlike("the lines are not equal")
-    if house_doors(one) != house_doors(other):
+    if net_doors(one) != net_doors(other):
         raise Unlike("the houses or their doors are not the same")
 
 
-def house_doors(net):
-    return [(name, [door for door, rules in house[0]]) for name, house in net[1]]
+def net_doors(net):
+    return [(name, house_doors(house)) for name, house in net[1]]
+
+
+def house_doors(house):
+    return [door for door, rules in house[0]]
 
 
 def mixed_by(one, other, names):
@@ -45,7 +49,7 @@ class Turner:
         self.one = one
         self.other = other
         self.demands = [Demand(demand) for demand in demands]
-        self.unlike = sorted([mine[0] for mine, its in zip(one[1], other[1]) if mine != its])
+        self.unlike = [mine[0] for mine, its in zip(one[1], other[1]) if mine != its]
         self.one_gates = net_gates(one)
         self.other_gates = net_gates(other)
         self.judged = {}
@@ -56,7 +60,7 @@ class Turner:
     def order_behind(self, names):
         if len(names) == len(self.unlike):
             return []
-        for name in [name for name in self.unlike if name not in names]:
+        for name in [its for its in self.unlike if its not in names]:
             after = tuple(sorted(names + (name,)))
             # Names that were come to ahead have told by now that they lead nowhere.
             is_new = after not in self.judged
